@@ -1,0 +1,1 @@
+"""Stayorgo: going and staying on a web, within rooms."""

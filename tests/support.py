@@ -1,0 +1,343 @@
+"""What the tests share: webs, second opinions by fractions, and a check of refusals."""
+
+import random
+from fractions import Fraction
+from itertools import combinations
+from math import gcd
+
+from stayorgo.errors import NotUsable
+
+HALVES = (((1, 1), (1, 1)), 2)
+FORK = (((0, 1, 1), (0, 0, 2), (0, 0, 2)), 2)
+TURN = (((0, 1), (1, 0)), 1)
+BOARD = (((0, 4, 0, 0), (2, 0, 2, 0), (0, 1, 0, 3), (0, 0, 0, 4)), 4)
+ONE = ((1, 0, 0), 1)
+ALONE = (((1,),), 1)
+CIRCLE = (((0, 2, 0), (0, 0, 2), (1, 1, 0)), 2)
+# Two fleeting places in front of a place that leads to itself alone and of a ring of two.
+TWO_LOTS = (((0, 1, 1, 0, 1), (1, 0, 0, 2, 0), (0, 0, 3, 0, 0), (0, 0, 0, 0, 3), (0, 0, 0, 3, 0)), 3)
+# Three closed lots, one of them not led to from elsewhere, and a fleeting place with an arrow to itself.
+THREE_LOTS = (((2, 1, 1, 0, 0), (0, 4, 0, 0, 0), (0, 0, 1, 3, 0), (0, 0, 2, 2, 0), (0, 0, 0, 0, 4)), 4)
+# A row of fleeting places, three of them in rings.
+LADDER = (((0, 3, 0, 0, 0), (1, 0, 2, 0, 0), (1, 0, 0, 1, 1), (0, 0, 0, 0, 3), (0, 0, 0, 0, 3)), 3)
+WEBS = (HALVES, FORK, TURN, BOARD, ALONE, CIRCLE, TWO_LOTS, THREE_LOTS, LADDER)
+
+
+def size_of(web):
+    return len(web[0])
+
+
+# Making
+
+def lowest(numbers, bottom):
+    common = bottom
+    for number in numbers:
+        common = gcd(common, number)
+    return [number // common for number in numbers], bottom // common
+
+
+def make_load(numbers, bottom):
+    tops, under = lowest(numbers, bottom)
+    return (tuple(tops), under)
+
+
+def make_quotient(value):
+    return (value.numerator, value.denominator)
+
+
+def load_of_values(numbers):
+    bottom = 1
+    for number in numbers:
+        bottom = bottom * number.denominator // gcd(bottom, number.denominator)
+    return make_load([int(number * bottom) for number in numbers], bottom)
+
+
+def random_row(dice, size, bottom):
+    row = [0] * size
+    targets = dice.sample(range(size), dice.randint(1, min(size, 3)))
+    for _ in range(bottom):
+        row[dice.choice(targets)] += 1
+    return tuple(row)
+
+
+def random_web(dice, largest=5):
+    size = dice.randint(1, largest)
+    bottom = dice.randint(1, 5)
+    rows = [random_row(dice, size, bottom) for _ in range(size)]
+    for place in range(size):
+        if dice.random() < 0.2:
+            rows[place] = tuple(bottom if other == place else 0 for other in range(size))
+    common = bottom
+    for row in rows:
+        for number in row:
+            common = gcd(common, number)
+    return (tuple(tuple(number // common for number in row) for row in rows), bottom // common)
+
+
+def random_load(dice, size, top=6, empty=0.4):
+    bottom = dice.randint(1, 6)
+    return make_load([0 if dice.random() < empty else dice.randint(0, top) for _ in range(size)], bottom)
+
+
+def random_webs(seed, many, largest=5):
+    dice = random.Random(seed)
+    return [(dice, random_web(dice, largest)) for _ in range(many)]
+
+
+# Second opinions
+
+def values(load):
+    return [Fraction(top, load[1]) for top in load[0]]
+
+
+def value(quotient):
+    return Fraction(quotient[0], quotient[1])
+
+
+def chance(web, here, there):
+    return Fraction(web[0][here][there], web[1])
+
+
+def step_values(web, stand):
+    size = size_of(web)
+    return [sum((stand[i] * chance(web, i, j) for i in range(size)), Fraction(0)) for j in range(size)]
+
+
+def comes_values(web, start, passes):
+    return [one + other for one, other in zip(start, step_values(web, passes))]
+
+
+def product_values(one, other):
+    return sum((first * second for first, second in zip(one, other)), Fraction(0))
+
+
+def subsets(things):
+    for many in range(len(things) + 1):
+        yield from combinations(things, many)
+
+
+def is_shut(web, places):
+    return all(web[0][i][j] == 0 for i in places for j in range(size_of(web)) if j not in places)
+
+
+def slow_lots(web):
+    """The closed lots, by the words of the definition."""
+    shut = [set(places) for places in subsets(range(size_of(web))) if places and is_shut(web, places)]
+    return tuple(sorted(tuple(sorted(lot)) for lot in shut if not any(other < lot for other in shut)))
+
+
+def slow_fleeting(web):
+    held = [place for lot in slow_lots(web) for place in lot]
+    return tuple(place for place in range(size_of(web)) if place not in held)
+
+
+def solve(matrix, right):
+    """The one solution, by elimination with fractions; None if there is not just one."""
+    rows = [list(map(Fraction, row)) + [Fraction(last)] for row, last in zip(matrix, right)]
+    many = len(rows)
+    for column in range(many):
+        found = [row for row in range(column, many) if rows[row][column] != 0]
+        if not found:
+            return None
+        rows[column], rows[found[0]] = rows[found[0]], rows[column]
+        rows[column] = [number / rows[column][column] for number in rows[column]]
+        for row in range(many):
+            if row != column:
+                factor = rows[row][column]
+                rows[row] = [one - factor * other for one, other in zip(rows[row], rows[column])]
+    return [row[-1] for row in rows]
+
+
+def slow_flow(web, places, base):
+    """v on places with v = base + v stepped there, or None."""
+    matrix = [[(i == j) - chance(web, i, j) for i in places] for j in places]
+    found = solve(matrix, [base[j] for j in places])
+    if found is None:
+        return None
+    out = [Fraction(0)] * size_of(web)
+    for place, number in zip(places, found):
+        out[place] = number
+    return out
+
+
+def is_table(web, start, rooms, table):
+    """The three lines of the definition of the table, for lists of fractions."""
+    comes = comes_values(web, start, table)
+    for place in range(size_of(web)):
+        if table[place] < 0:
+            return False
+        if table[place] > 0 and table[place] != comes[place] - rooms[place]:
+            return False
+        if table[place] == 0 and comes[place] > rooms[place]:
+            return False
+    return all(any(table[place] == 0 for place in lot) for lot in slow_lots(web))
+
+
+def slow_table(web, start, rooms):
+    """The table as a load, or None, by trying all sets of places for those that are passed."""
+    first, room = values(start), values(rooms)
+    lacks = [one - other for one, other in zip(first, room)]
+    found = []
+    for places in subsets(range(size_of(web))):
+        flow = slow_flow(web, places, lacks)
+        if flow is not None and is_table(web, first, room, flow) and flow not in found:
+            found.append(flow)
+    assert len(found) < 2, "two tables"
+    return load_of_values(found[0]) if found else None
+
+
+def slow_end(web, start, passes):
+    comes = comes_values(web, values(start), values(passes))
+    return load_of_values([one - other for one, other in zip(comes, values(passes))])
+
+
+def slow_hope(web, closed, barred):
+    """The hope of closed past barred, as fractions."""
+    free = [place for place in slow_fleeting(web) if place not in barred]
+    matrix = [[(i == j) - chance(web, i, j) for j in free] for i in free]
+    found = solve(matrix, [sum((chance(web, i, j) for j in closed), Fraction(0)) for i in free])
+    hope = [Fraction(int(place in closed)) for place in range(size_of(web))]
+    for place, number in zip(free, found):
+        hope[place] = number
+    return hope
+
+
+def slow_hopes(web):
+    """All pairs (closed, barred), ascending, with their hopes."""
+    pairs = [(lot, barred) for lot in slow_lots(web) for barred in subsets(slow_fleeting(web))]
+    return [(pair, slow_hope(web, *pair)) for pair in sorted(pairs)]
+
+
+def slow_gap(start, rooms, hope):
+    return product_values(values(start), hope) - product_values(values(rooms), hope)
+
+
+def stay_first(web, start, rooms, many):
+    """The passes of stay-first before moments 0 to many, by what stands and what has stayed."""
+    size = size_of(web)
+    stands, left, gone = values(start), values(rooms), [Fraction(0)] * size
+    course = [gone]
+    for _ in range(many):
+        stays = [min(one, room) for one, room in zip(stands, left)]
+        goes = [one - stay for one, stay in zip(stands, stays)]
+        left = [room - stay for room, stay in zip(left, stays)]
+        gone = [one + more for one, more in zip(gone, goes)]
+        stands = step_values(web, goes)
+        course.append(gone)
+    return course
+
+
+def go_first(web, start, allowance, many):
+    """The passes of go-first before moments 0 to many, by what stands and what may still go."""
+    size = size_of(web)
+    stands, left, gone = values(start), values(allowance), [Fraction(0)] * size
+    course = [gone]
+    for _ in range(many):
+        goes = [min(one, more) for one, more in zip(stands, left)]
+        left = [one - more for one, more in zip(left, goes)]
+        gone = [one + more for one, more in zip(gone, goes)]
+        stands = step_values(web, goes)
+        course.append(gone)
+    return course
+
+
+# Refusals
+
+def bad_loads(size):
+    """Values that are no loads of the size."""
+    unit = (1,) + (0,) * (size - 1)
+    return [
+        None, True, 3, "", "1,0/1", (), [], unit, (unit,), (unit, 1, 1), [unit, 1], (list(unit), 1), (unit, 0),
+        (unit, -1), (unit, True), (unit, "1"), (unit, None), (unit, (1,)), ((True,) + unit[1:], 1),
+        ((-1,) + unit[1:], 1), (("1",) + unit[1:], 1), ((None,) + unit[1:], 1), (((1,),) + unit[1:], 1),
+        (unit + (0,), 1), (unit[1:], 1), ((2,) + (0,) * (size - 1), 2), ((0,) * size, 2), (unit, 10 ** 59, None),
+        "x" * 4000, (1,) * 4000,
+    ]
+
+
+def bad_numbers():
+    return [None, True, False, -1, "1", "", (), (1,), [1], -10 ** 59]
+
+
+def bad_places(size):
+    return [None, True, False, -1, size, size + 1, 10 ** 59, "0", (), (0,), [0]]
+
+
+def bad_sets(size):
+    return [
+        None, True, 0, "", "0", [], [0], (size,), (-1,), (0, 0), (True,), (False,), ("0",), (None,), ((0,),),
+        (0, size), tuple(range(size + 1)), (0, None), tuple(range(size))[::-1] if size > 1 else (0, 0),
+    ]
+
+
+def bad_quotients():
+    return [
+        None, True, 0, 1, "1/2", "", (), (1,), [1, 2], (1, 2, 3), (2, 4), (0, 2), (1, 0), (1, -2), (True, 2), (1, True),
+        ("1", 2), (1, None), ((1, 2), 1), (10 ** 59, 10 ** 58), (0, 0),
+    ]
+
+
+def bad_amounts():
+    """Values that are no quotients of at least 0."""
+    return bad_quotients() + [(-1, 1), (-1, 2), (-10 ** 59, 1)]
+
+
+def refused_as(function, arguments, names):
+    """The name that is refused, called by position and by name; both must be alike."""
+    told = []
+    for call in (
+        lambda: function(*arguments),
+        lambda: function(**dict(zip(names, arguments))),
+        lambda: function(arguments[0], **dict(zip(names[1:], arguments[1:]))) if arguments else function(),
+    ):
+        try:
+            call()
+        except NotUsable as refusal:
+            told.append((refusal.word, refusal.at))
+        else:
+            told.append(None)
+    assert told[0] == told[1] == told[2], told
+    return told[0]
+
+
+def check_refusals(case, function, good, bad):
+    """Each bad value is refused by its parameter's name, alone and with all later parameters bad, too.
+
+    good is a list of pairs (name, value); bad has, for names of these, lists of values that are not as stated.
+    """
+    names = [name for name, _ in good]
+    for at, name in enumerate(names):
+        for wrong in bad.get(name, ()):
+            arguments = [held for _, held in good]
+            arguments[at] = wrong
+            case.assertEqual(refused_as(function, arguments, names), (name, -1), (function.__name__, name, wrong))
+            for later in range(at + 1, len(names)):
+                if names[later] in bad:
+                    arguments[later] = bad[names[later]][0]
+            case.assertEqual(refused_as(function, arguments, names), (name, -1), (function.__name__, name, wrong))
+    case.assertIsNone(refused_as(function, [held for _, held in good], names), function.__name__)
+
+
+def raised(function, *arguments, **named):
+    """The error that the call raises, or None."""
+    try:
+        function(*arguments, **named)
+    except ValueError as refusal:
+        return refusal
+    return None
+
+
+def fields_of(refusal):
+    """The class name and the fields of an error."""
+    return (type(refusal).__name__, tuple(vars(refusal).values()))
+
+
+class Same:
+    """Mixed into test cases: equality to the sign, so that True is not 1 and a list is no tuple."""
+
+    def same(self, one, other, told=None):
+        self.assertEqual(repr(one), repr(other), told)
+
+    def refuses_paper(self, word, at, function, *arguments):
+        refusal = raised(function, *arguments)
+        self.same(fields_of(refusal), ("InvalidPaper", (word, at)), arguments)
