@@ -1,0 +1,179 @@
+"""The examples of the document, to the sign."""
+
+import unittest
+
+from stayorgo.errors import StayError
+
+# The examples as the document has them; where it says that a call raises an error, "raises" and the error stand here.
+TOLD = """
+>>> HALVES = (((1, 1), (1, 1)), 2)
+>>> FORK = (((0, 1, 1), (0, 0, 2), (0, 0, 2)), 2)
+>>> TURN = (((0, 1), (1, 0)), 1)
+>>> BOARD = (((0, 4, 0, 0), (2, 0, 2, 0), (0, 1, 0, 3), (0, 0, 0, 4)), 4)
+>>> ONE = ((1, 0, 0), 1)
+>>> from stayorgo.kinds import is_quotient, is_set
+>>> (is_quotient((2, 4)), is_quotient((-1, 2)), is_set(3, ()), is_set(3, (2, 1)))
+(False, True, True, False)
+>>> from stayorgo.quotients import over, quotient_of
+>>> (quotient_of(6, -4), over((1, 2), (-3, 4)))
+((-3, 2), (-2, 3))
+>>> from stayorgo.loads import load_of, product_of, taken
+>>> load_of(((1, 2), (0, 1), (1, 3)))
+((3, 0, 2), 6)
+>>> (taken(((3, 0, 2), 6), ((1, 0, 1), 3)), product_of(((3, 0, 2), 6), ((1, 0, 1), 3)))
+(((1, 0, 0), 6), (5, 18))
+>>> from stayorgo.compares import first_above, lesser_of
+>>> (lesser_of(((1, 1), 2), ((0, 2), 3)), first_above(((1, 1), 2), ((2, 0), 3)))
+(((0, 1), 2), 1)
+>>> from stayorgo.webchecker import lets_web
+>>> lets_web((((1, 1), (2, 0)), 2))
+2
+>>> from stayorgo.webmaking import lazily
+>>> lazily(TURN, (1, 3))
+(((1, 2), (2, 1)), 3)
+>>> from stayorgo.arrows import closed_lots, fleeting_places, reached_from
+>>> (closed_lots(BOARD), fleeting_places(BOARD), reached_from(FORK, 1))
+(((3,),), (0, 1, 2), (1, 2))
+>>> from stayorgo.stepping import shares_of, step_course
+>>> (step_course(FORK, ONE, 1), shares_of((((0, 2), (1, 1)), 2), (0, 1)))
+((((1, 0, 0), 1), ((0, 1, 1), 2)), ((1, 2), 3))
+>>> from stayorgo.rings import ring_in
+>>> (ring_in(FORK, (1, 2)), ring_in(FORK, (0, 1)))
+((2,), None)
+>>> from stayorgo.solving import visits_in
+>>> visits_in(BOARD, (0, 1, 2), ((1, 0, 0, 0), 1))
+((7, 8, 4, 0), 3)
+>>> from stayorgo.webtexts import load_line, web_line
+>>> (load_line(((1, 0, 2), 3)), web_line(TURN))
+('1,0,2/3', '0,1;1,0/1')
+>>> from stayorgo.webclasses import Web
+>>> net = Web.read_line("0,1;1,0/1")
+>>> (len(net), (0, 1) in net, net.walk(((1, 0), 1), many=3))
+(2, True, ((0, 1), 1))
+>>> from stayorgo.growing import growth_of
+>>> growth_of(FORK, ONE, ((0, 10, 3), 10))
+((0,), (0, 2))
+>>> growth_of(FORK, ONE, ((0, 1, 3), 4))
+((0,), (0, 1))
+>>> from stayorgo.tables import can_stay, table_of
+>>> table_of(BOARD, ((1, 0, 0, 0), 1), ((0, 0, 0, 1), 1))
+((7, 8, 4, 0), 3)
+>>> from stayorgo.ends import first_end, room_left, with_less, with_more
+>>> room_left(FORK, ONE, ((1, 0, 2), 2))
+((0, 0, 1), 2)
+>>> with_more(FORK, ((1, 0, 0), 2), ((1, 0, 2), 2), ((0, 1, 0), 2))
+(((0, 1, 0), 2), ((1, 0, 1), 2))
+>>> with_less(FORK, ONE, ((1, 0, 2), 2), ((0, 0, 1), 1))
+(((2, 1, 0), 2), ((0, 0, 1), 1))
+>>> from stayorgo.hopes import hope_of
+>>> hope_of(BOARD, (3,), (0,))
+((0, 3, 6, 7), 7)
+>>> from stayorgo.gaps import gap_of, gaps_of, lost_of, some_gap
+>>> gap_of(FORK, ONE, ((0, 10, 3), 10), (2,), ())
+(-3, 10)
+>>> gaps_of(FORK, ONE, ((0, 10, 3), 10))
+(((2,), (1,)),)
+>>> some_gap(FORK, ONE, ((0, 1, 1), 2))
+None
+>>> lost_of(FORK, ONE, ((0, 10, 3), 10))
+((1, 5),)
+>>> from stayorgo.morerooms import greatest_share, least_more
+>>> least_more(FORK, ONE, ((0, 10, 3), 10), 0)
+(2, 5)
+>>> least_more(FORK, ONE, ((0, 10, 3), 10), 1)
+None
+>>> greatest_share(FORK, ONE, ((0, 10, 3), 10))
+(3, 5)
+>>> from stayorgo.roompapers import lets_room, room_paper
+>>> room_paper(FORK, ONE, ((0, 1, 1), 2))
+('table', ((1, 0, 0), 1))
+>>> lets_room(FORK, ONE, ((0, 10, 3), 10), ("gap", (2,), (1,)))
+False
+>>> lets_room(FORK, ONE, ((0, 1, 1), 2), ("table", ((2, 0, 0), 1)))
+raises InvalidPaper('passed', 0)
+>>> from stayorgo.comings import can_come, end_places, need_of
+>>> can_come(FORK, ONE, ((0, 1, 0), 1))
+False
+>>> need_of(BOARD, ((1, 0, 0, 0), 1), ((0, 0, 0, 1), 1))
+(19, 3)
+>>> end_places(FORK, ((0, 1, 0), 1))
+(1, 2)
+>>> from stayorgo.firsts import by_first
+>>> by_first(FORK, ONE, ((0, 1, 2), 2), ((0, 0, 1), 1))
+(((1, 0, 0), 1), ((0, 1, 0), 2))
+>>> from stayorgo.roomclasses import Rooms
+>>> house = Rooms(FORK, ONE, ((0, 1, 2), 2))
+>>> house.find_left()
+((0, 0, 1), 2)
+>>> house.with_fewer(((0, 1, 0), 2)).fits()
+False
+>>> from stayorgo.mosts import come_places, last_end, most_of
+>>> come_places(FORK, ONE, ((0, 1, 1), 1))
+(0,)
+>>> most_of(FORK, ONE, ((4, 1, 12), 4))
+((4, 1, 12), 4)
+>>> last_end(FORK, ONE, ((4, 1, 12), 4))
+((0, 1, 3), 4)
+>>> from stayorgo.spares import more_allowance, more_start, spare_of
+>>> spare_of(TURN, ((1, 0), 1), ((3, 0), 1))
+((2, 0), 1)
+>>> more_allowance(TURN, ((1, 0), 1), ((1, 0), 1), ((0, 1), 1))
+(((1, 1), 1), ((1, 0), 1))
+>>> more_start(TURN, ((1, 0), 1), ((1, 0), 1), ((1, 0), 1))
+(((1, 0), 1), ((1, 1), 1))
+>>> from stayorgo.mostchecker import lets_most
+>>> lets_most(TURN, ((1, 0), 1), ((1, 1), 1), ((1, 1), 1))
+((1, 0), 1)
+>>> lets_most(TURN, ((0, 0), 1), ((1, 1), 1), ((1, 1), 1))
+raises InvalidPaper('lot', 0)
+>>> from stayorgo.wastes import trimmed, waste_of, wasted
+>>> trimmed(TURN, ((2, 1), 1))
+((1, 0), 1)
+>>> waste_of(TURN, ((2, 1), 1))
+((2, 1),)
+>>> wasted(FORK, ((4, 1, 0), 4), (2,), (3, 1))
+((4, 1, 12), 4)
+>>> table_of(FORK, ONE, ((0, 1, 1), 2))
+((1, 0, 0), 1)
+>>> can_stay(FORK, ONE, ((0, 10, 3), 10))
+False
+>>> hope_of(FORK, (2,), (1,))
+((1, 0, 2), 2)
+>>> gap_of(FORK, ONE, ((0, 10, 3), 10), (2,), (1,))
+(1, 5)
+>>> table_of(FORK, ONE, ((0, 1, 3), 4))
+((4, 1, 0), 4)
+>>> first_end(FORK, ONE, ((0, 1, 3), 4))
+((0, 1, 3), 4)
+>>> table_of(HALVES, ((1, 0), 1), ((1, 1), 2))
+((1, 0), 1)
+"""
+
+
+def shown(refusal):
+    """An error as the document writes it."""
+    return "raises {}({})".format(type(refusal).__name__, ", ".join(repr(field) for field in vars(refusal).values()))
+
+
+def result_of(source, names):
+    """What the expression gives, written out."""
+    try:
+        return repr(eval(source, names))
+    except StayError as refusal:
+        return shown(refusal)
+
+
+class Examples(unittest.TestCase):
+    def test_examples_of_the_document(self):
+        names = {}
+        lines = TOLD.strip().split("\n")
+        told = 0
+        for at, line in enumerate(lines):
+            if not line.startswith(">>> "):
+                continue
+            if at + 1 == len(lines) or lines[at + 1].startswith(">>> "):
+                exec(line[4:], names)
+            else:
+                self.assertEqual(result_of(line[4:], names), lines[at + 1], line)
+                told += 1
+        self.assertEqual(told, len([line for line in lines if not line.startswith(">>> ")]))

@@ -1,0 +1,84 @@
+"""The interface: each name stands in its own file, with its arguments in their order."""
+
+import importlib
+import inspect
+import unittest
+
+FUNCTIONS = """
+kinds: is_integer(thing), is_number(thing), is_quotient(thing), is_load(size, thing), is_spread(size, thing), is_set(size, thing)
+quotients: quotient_of(top, bottom), plus(one, other), minus(one, other), times(one, other), over(one, other), is_less(one, other)
+loads: load_of(quotients), entry_of(load, place), weight_of(load), no_load(size), unit_load(size, place), added(load, other)
+loads: taken(load, other), scaled(load, factor), product_of(load, other)
+compares: is_within(load, other), lesser_of(load, other), greater_of(load, other), first_above(load, other)
+webchecker: lets_web(thing), is_web(thing)
+webmaking: web_of(rows), ring_web(size), lazily(web, part), beside(web, other), row_of(web, place)
+arrows: arrows_of(web), nexts_of(web, place), reached_from(web, place), closed_lots(web), fleeting_places(web)
+arrows: closed_at(web, place)
+stepping: stepped(web, start), walked(web, start, many), step_course(web, start, many), shares_of(web, closed)
+rings: ring_in(web, places), is_ring(web, thing)
+solving: is_left(web, places), visits_in(web, places, start)
+webtexts: load_line(load), web_line(web), read_load(text), read_web(text)
+growing: growth_of(web, start, rooms)
+tables: can_stay(web, start, rooms), table_of(web, start, rooms)
+ends: first_end(web, start, rooms), room_left(web, start, rooms), with_more(web, start, rooms, extra)
+ends: with_less(web, start, rooms, fewer)
+hopes: hope_of(web, closed, barred)
+gaps: gap_of(web, start, rooms, closed, barred), gaps_of(web, start, rooms), some_gap(web, start, rooms)
+gaps: lost_of(web, start, rooms)
+morerooms: least_more(web, start, rooms, place), greatest_share(web, start, rooms)
+roompapers: room_paper(web, start, rooms), lets_room(web, start, rooms, thing)
+comings: can_come(web, start, target), need_of(web, start, target), end_places(web, start)
+firsts: is_end(web, start, rooms, target), by_first(web, start, rooms, target)
+mosts: come_places(web, start, allowance), most_of(web, start, allowance), last_end(web, start, allowance)
+spares: spare_of(web, start, allowance), more_allowance(web, start, allowance, extra)
+spares: more_start(web, start, allowance, extra)
+mostchecker: lets_most(web, start, allowance, thing)
+wastes: trimmed(web, passes), waste_of(web, passes), wasted(web, passes, closed, factor)
+"""
+
+CLASSES = {
+    ("webclasses", "Web"): """(web), walk(start, *, many=1), read_line(text), __len__(), __iter__(), __contains__(thing),
+        __eq__(other), __call__(start), __add__(other)""",
+    ("roomclasses", "Rooms"): """(web, start, rooms), given(), fits(), find_table(), find_end(), find_left(), find_need(),
+        find_gaps(), find_help(place), find_share(), find_paper(), judge(thing), takes_end(target), and_more(extra),
+        with_fewer(fewer)""",
+}
+
+
+def parts_of(text):
+    """The pairs of a name and its parameters in a list of signatures."""
+    for part in text.replace("\n", " ").split("),"):
+        name, _, rest = part.strip().rstrip(")").partition("(")
+        yield name.strip(), "(" + rest + ")"
+
+
+class Interface(unittest.TestCase):
+    def test_functions(self):
+        told = 0
+        for line in FUNCTIONS.strip().split("\n"):
+            module, _, rest = line.partition(":")
+            held = importlib.import_module("stayorgo." + module)
+            for name, signature in parts_of(rest):
+                function = getattr(held, name)
+                self.assertTrue(inspect.isfunction(function), name)
+                self.assertEqual(function.__module__, "stayorgo." + module, name)
+                self.assertEqual(str(inspect.signature(function)), signature, name)
+                told += 1
+        self.assertEqual(told, 81)
+
+    def test_classes(self):
+        for (module, name), text in CLASSES.items():
+            held = getattr(importlib.import_module("stayorgo." + module), name)
+            self.assertEqual(held.__module__, "stayorgo." + module)
+            for method, signature in parts_of(text):
+                if method == "":
+                    self.assertEqual(str(inspect.signature(held)), signature)
+                    continue
+                self.assertIn(method, vars(held))
+                inner = vars(held)[method]
+                if isinstance(inner, classmethod):
+                    shown = str(inspect.signature(getattr(held, method)))
+                else:
+                    shown = str(inspect.signature(inner)).replace("(self, ", "(").replace("(self)", "()")
+                self.assertEqual(shown, signature, method)
+        self.assertIsInstance(vars(importlib.import_module("stayorgo.webclasses").Web)["read_line"], classmethod)
