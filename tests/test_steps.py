@@ -110,7 +110,8 @@ class Rings(unittest.TestCase, Same):
         for thing in ((), (0,), (1,), (0, 2), (1, 2, 3), (3, 3), (0, 1, 0, 1), (2, 3), (4,), (-1,), (0, 1, 2)):
             self.same(is_ring(BOARD, thing), False, thing)
         for thing in (None, True, 0, 3, "", "01", [3], [0, 1], (True, 0), (0, True), (False, 1), (None,), ("3",),
-                      ((3,),), (10 ** 59,), (3,) * 4000):
+                      ((3,),), (10 ** 59,), (3,) * 4000,
+                      ([3],), (3, [3]), (None, [0, 1])):
             self.same(is_ring(BOARD, thing), False, thing)
         self.same(is_ring(CIRCLE, thing=(2, 0, 1)), True)
         self.same(is_ring(CIRCLE, (2, 1, 0)), False)

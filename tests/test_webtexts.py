@@ -19,6 +19,7 @@ from tests.support import (
 from tests.test_webs import WRONG_WEBS
 
 NO_STRINGS = [None, True, 0, (), [], ("0/1",), ["0/1"], 10 ** 59]
+SIGNS = [chr(number) for number in range(32, 127)] + ["\n"]
 NUMBER = "(0|[1-9][0-9]*)"
 LOAD_FORM = re.compile("{n}(,{n})*/[1-9][0-9]*".format(n=NUMBER))
 WEB_FORM = re.compile("{n}([,;]{n})*/[1-9][0-9]*".format(n=NUMBER))
@@ -84,13 +85,13 @@ class Lines(unittest.TestCase, Same):
         for line in ("10,0,203/45", "0/1"):
             for at in range(len(line) + 1):
                 self.told(read_load, LOAD_FORM, line[:at])
-                for sign in "0157,;/ -a":
+                for sign in SIGNS:
                     self.told(read_load, LOAD_FORM, line[:at] + sign + line[at:])
                     self.told(read_load, LOAD_FORM, line[:at] + sign + line[at + 1:])
         for line in (web_line(BOARD), "10,2;0,12/12"):
             for at in range(len(line) + 1):
                 self.told(read_web, WEB_FORM, line[:at])
-                for sign in "015,;/ a":
+                for sign in SIGNS:
                     self.told(read_web, WEB_FORM, line[:at] + sign + line[at:])
                     self.told(read_web, WEB_FORM, line[:at] + sign + line[at + 1:])
 
