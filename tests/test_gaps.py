@@ -77,7 +77,8 @@ class Hopes(unittest.TestCase, Same):
             held = [(place,) for other in slow_lots(web) for place in other] + [lot, tuple(range(size_of(web)))]
             good = [("web", web), ("closed", lot), ("barred", barred)]
             check_refusals(self, hope_of, good, {"closed": bad_lots(web), "barred": bad_sets(size_of(web)) + held})
-        check_refusals(self, hope_of, [("web", HALVES), ("closed", (0, 1)), ("barred", ())], {"closed": [(False, True), (0, True)]})
+        good = [("web", HALVES), ("closed", (0, 1)), ("barred", ())]
+        check_refusals(self, hope_of, good, {"closed": [(False, True), (0, True)]})
 
 
 class Gaps(unittest.TestCase, Same):
@@ -179,8 +180,9 @@ class MoreRooms(unittest.TestCase, Same):
                 dealt["none"] += 1
                 self.same(share, None)
                 continue
-            hopes = [(product_values(values(start), hope), product_values(values(rooms), hope)) for _, hope in slow_hopes(web)]
-            self.same(share, make_quotient(min(room / coming for coming, room in hopes if coming > 0)))
+            first, room = values(start), values(rooms)
+            hopes = [(product_values(first, hope), product_values(room, hope)) for _, hope in slow_hopes(web)]
+            self.same(share, make_quotient(min(there / coming for coming, there in hopes if coming > 0)))
             dealt["nought" if share[0] == 0 else "below" if is_less(share, (1, 1)) else "above"] += 1
             self.same(can_stay(web, scaled(start, share), rooms), True)
             bit = make_quotient(value(share) + Fraction(1, 10 ** 6))

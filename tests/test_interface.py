@@ -5,10 +5,12 @@ import inspect
 import unittest
 
 FUNCTIONS = """
-kinds: is_integer(thing), is_number(thing), is_quotient(thing), is_load(size, thing), is_spread(size, thing), is_set(size, thing)
-quotients: quotient_of(top, bottom), plus(one, other), minus(one, other), times(one, other), over(one, other), is_less(one, other)
-loads: load_of(quotients), entry_of(load, place), weight_of(load), no_load(size), unit_load(size, place), added(load, other)
-loads: taken(load, other), scaled(load, factor), product_of(load, other)
+kinds: is_integer(thing), is_number(thing), is_quotient(thing), is_load(size, thing), is_spread(size, thing)
+kinds: is_set(size, thing)
+quotients: quotient_of(top, bottom), plus(one, other), minus(one, other), times(one, other), over(one, other)
+quotients: is_less(one, other)
+loads: load_of(quotients), entry_of(load, place), weight_of(load), no_load(size), unit_load(size, place)
+loads: added(load, other), taken(load, other), scaled(load, factor), product_of(load, other)
 compares: is_within(load, other), lesser_of(load, other), greater_of(load, other), first_above(load, other)
 webchecker: lets_web(thing), is_web(thing)
 webmaking: web_of(rows), ring_web(size), lazily(web, part), beside(web, other), row_of(web, place)
@@ -37,11 +39,11 @@ wastes: trimmed(web, passes), waste_of(web, passes), wasted(web, passes, closed,
 """
 
 CLASSES = {
-    ("webclasses", "Web"): """(web), walk(start, *, many=1), read_line(text), __len__(), __iter__(), __contains__(thing),
-        __eq__(other), __call__(start), __add__(other)""",
-    ("roomclasses", "Rooms"): """(web, start, rooms), given(), fits(), find_table(), find_end(), find_left(), find_need(),
-        find_gaps(), find_help(place), find_share(), find_paper(), judge(thing), takes_end(target), and_more(extra),
-        with_fewer(fewer)""",
+    ("webclasses", "Web"): """(web), walk(start, *, many=1), read_line(text), __len__(), __iter__(),
+        __contains__(thing), __eq__(other), __call__(start), __add__(other)""",
+    ("roomclasses", "Rooms"): """(web, start, rooms), given(), fits(), find_table(), find_end(), find_left(),
+        find_need(), find_gaps(), find_help(place), find_share(), find_paper(), judge(thing), takes_end(target),
+        and_more(extra), with_fewer(fewer)""",
 }
 
 

@@ -9,14 +9,14 @@ import unittest
 FOLDER = os.path.join(os.path.dirname(os.path.dirname(os.path.abspath(__file__))), "stayorgo")
 LIBRARY = {"math": ("gcd", "lcm", "isqrt", "comb", "perm", "factorial"), "heapq": ("heappush", "heappop", "heapify")}
 CALLED = set(
-    "len range enumerate zip min max sum abs sorted reversed int str bool list tuple dict set isinstance ord repr any all"
-    " divmod iter".split()
+    "len range enumerate zip min max sum abs sorted reversed int str bool list tuple dict set isinstance ord repr"
+    " any all divmod iter".split()
 )
 ERRORS = {"ValueError", "KeyError", "TypeError", "IndexError", "LookupError", "ZeroDivisionError"}
 METHODS = set(
-    "append clear copy count endswith extend find get index insert isalnum isalpha isdigit islower isspace isupper items"
-    " join keys ljust lower lstrip partition pop remove replace reverse rfind rjust rpartition rsplit rstrip setdefault"
-    " split splitlines startswith strip update upper values zfill bit_length".split()
+    "append clear copy count endswith extend find get index insert isalnum isalpha isdigit islower isspace isupper"
+    " items join keys ljust lower lstrip partition pop remove replace reverse rfind rjust rpartition rsplit rstrip"
+    " setdefault split splitlines startswith strip update upper values zfill bit_length".split()
 )
 DUNDERS = set(
     "__init__ __eq__ __repr__ __str__ __len__ __call__ __iter__ __lt__ __le__ __gt__ __ge__ __add__ __sub__ __mul__"
@@ -28,13 +28,13 @@ WORDS = re.compile(
     r"|NamedTuple|TypedDict|TYPE_CHECKING|abstractmethod)\b|dataclass|overload|contextmanager|_wall|_WallAttr"
 )
 STATEMENTS = (
-    ast.FunctionDef, ast.ClassDef, ast.Return, ast.Assign, ast.AugAssign, ast.For, ast.While, ast.If, ast.Raise, ast.Try,
-    ast.Assert, ast.ImportFrom, ast.Expr, ast.Pass, ast.Break, ast.Continue, ast.Delete,
+    ast.FunctionDef, ast.ClassDef, ast.Return, ast.Assign, ast.AugAssign, ast.For, ast.While, ast.If, ast.Raise,
+    ast.Try, ast.Assert, ast.ImportFrom, ast.Expr, ast.Pass, ast.Break, ast.Continue, ast.Delete,
 )
 EXPRESSIONS = (
-    ast.BoolOp, ast.BinOp, ast.UnaryOp, ast.IfExp, ast.Dict, ast.Set, ast.ListComp, ast.DictComp, ast.SetComp, ast.Compare,
-    ast.Call, ast.JoinedStr, ast.FormattedValue, ast.Constant, ast.Attribute, ast.Subscript, ast.Starred, ast.Name,
-    ast.List, ast.Tuple, ast.Slice,
+    ast.BoolOp, ast.BinOp, ast.UnaryOp, ast.IfExp, ast.Dict, ast.Set, ast.ListComp, ast.DictComp, ast.SetComp,
+    ast.Compare, ast.Call, ast.JoinedStr, ast.FormattedValue, ast.Constant, ast.Attribute, ast.Subscript, ast.Starred,
+    ast.Name, ast.List, ast.Tuple, ast.Slice,
 )
 ITERATORS = ("list", "tuple", "dict", "sorted", "sum", "any", "all", "enumerate", "zip", "min", "max")
 
@@ -71,7 +71,8 @@ def docstrings(tree):
 def bound_in(function):
     """The names that a function binds: parameters, targets, comprehension variables."""
     names = [node.arg for node in ast.walk(function) if isinstance(node, ast.arg)]
-    return names + [node.id for node in ast.walk(function) if isinstance(node, ast.Name) and isinstance(node.ctx, ast.Store)]
+    held = [node for node in ast.walk(function) if isinstance(node, ast.Name)]
+    return names + [node.id for node in held if isinstance(node.ctx, ast.Store)]
 
 
 def bound_at_top(tree):
@@ -215,7 +216,7 @@ class Language(unittest.TestCase):
                 held = bound_in(function)
                 for node in [node for row in function.body for node in ast.walk(row)]:
                     if isinstance(node, ast.Name) and isinstance(node.ctx, ast.Load):
-                        self.assertTrue(node.id in held or node.id in tops or node.id in CALLED | ERRORS, (name, node.id))
+                        self.assertIn(node.id, {*held, *tops, *CALLED, *ERRORS}, name)
                         self.assertNotEqual(node.id, "_", name)
 
     def test_functions_and_classes(self):
@@ -265,13 +266,15 @@ class Language(unittest.TestCase):
             self.assertTrue(isinstance(held, ast.Compare) or held.func.id in ("sorted", "len"), where)
 
     def test_calls(self):
-        methods = {node.name for _, tree in trees() for node in functions_of(tree) if isinstance(node.parent, ast.ClassDef)}
+        held = [node for _, tree in trees() for node in functions_of(tree)]
+        methods = {node.name for node in held if isinstance(node.parent, ast.ClassDef)}
         for where, node in self.each(ast.Call):
             if isinstance(node.func, ast.Attribute):
                 self.assertIn(node.func.attr, METHODS | methods, where)
                 self.assertFalse(node.keywords and node.func.attr in METHODS, where)
             if isinstance(node.func, ast.Name) and node.func.id in CALLED:
-                self.assertTrue(all(word.arg in ("key", "reverse", "default", "start") for word in node.keywords), where)
+                words = {word.arg for word in node.keywords}
+                self.assertLessEqual(words, {"key", "reverse", "default", "start"}, where)
             self.assertFalse(any(word.arg is None for word in node.keywords), where)
             self.assertFalse(any(isinstance(held, ast.Starred) for held in node.args), where)
 

@@ -81,9 +81,11 @@ class Mosts(unittest.TestCase, Same):
                 self.assertTrue(all(one <= other for one, other in zip(gone, values(most))))
 
     def test_go_first_comes_near(self):
-        for web, start, allowance in ((HALVES, LEFT, ((3, 1), 2)), (TURN, LEFT, ((5, 4), 1)), (FORK, ONE, ((4, 1, 12), 4))):
+        given = ((HALVES, LEFT, ((3, 1), 2)), (TURN, LEFT, ((5, 4), 1)), (FORK, ONE, ((4, 1, 12), 4)))
+        for web, start, allowance in given:
             gone = go_first(web, start, allowance, 60)[-1]
-            self.assertTrue(all(other - one < Fraction(1, 10 ** 6) for one, other in zip(gone, values(most_of(web, start, allowance)))))
+            most = values(most_of(web, start, allowance))
+            self.assertTrue(all(other - one < Fraction(1, 10 ** 6) for one, other in zip(gone, most)))
 
     def test_come_places(self):
         outside = 0
@@ -150,7 +152,8 @@ class Spares(unittest.TestCase, Same):
             self.same(told, (most_of(web, start, wider), last_end(web, start, wider)))
             self.same(more_allowance(web=web, start=start, allowance=allowance, extra=extra), told)
             # By (G4): what passes ahead, and what passes then from the last end by the allowance that is left.
-            most, last, spare = most_of(web, start, allowance), last_end(web, start, allowance), spare_of(web, start, allowance)
+            most, last = most_of(web, start, allowance), last_end(web, start, allowance)
+            spare = spare_of(web, start, allowance)
             self.same(told[0], added(most, most_of(web, last, added(spare, extra))))
             told = more_start(web, start, allowance, extra)
             self.same(told, (most_of(web, fuller, allowance), last_end(web, fuller, allowance)))
@@ -165,7 +168,8 @@ class Checker(unittest.TestCase, Same):
             most = most_of(web, start, allowance)
             self.same(lets_most(web, start, allowance, most), last_end(web, start, allowance))
             self.same(lets_most(web=web, start=start, allowance=allowance, thing=most), last_end(web, start, allowance))
-            for thing in [allowance, start, no_load(size_of(web))] + [random_load(dice, size_of(web), 3) for _ in range(4)]:
+            things = [random_load(dice, size_of(web), 3) for _ in range(4)]
+            for thing in [allowance, start, no_load(size_of(web))] + things:
                 if thing != most:
                     self.assertEqual(type(raised(lets_most, web, start, allowance, thing)).__name__, "InvalidPaper")
             for lot in slow_lots(web):
@@ -178,8 +182,9 @@ class Checker(unittest.TestCase, Same):
 
     def test_lesser(self):
         for start, allowance, thing, at in (
-            (LEFT, ((1, 1), 1), ((0, 0), 1), 0), (LEFT, ((1, 1), 1), ((2, 1), 1), 0), (LEFT, ((1, 1), 1), ((1, 2), 1), 1),
-            (LEFT, ((1, 1), 1), ((1, 0), 1), 1), (LEFT, ((1, 1), 1), ((2, 2), 1), 0), (LEFT, ((0, 1), 1), ((0, 1), 1), 1),
+            (LEFT, ((1, 1), 1), ((0, 0), 1), 0), (LEFT, ((1, 1), 1), ((2, 1), 1), 0),
+            (LEFT, ((1, 1), 1), ((1, 2), 1), 1), (LEFT, ((1, 1), 1), ((1, 0), 1), 1),
+            (LEFT, ((1, 1), 1), ((2, 2), 1), 0), (LEFT, ((0, 1), 1), ((0, 1), 1), 1),
             (no_load(2), ((1, 1), 1), ((1, 0), 1), 0), (no_load(2), ((1, 1), 1), ((0, 1), 1), 0),
         ):
             self.refuses_paper("lesser", at, lets_most, TURN, start, allowance, thing)

@@ -45,8 +45,8 @@ class Kinds(unittest.TestCase, Same):
 
     def test_loads(self):
         for size, thing in (
-            (1, ((0,), 1)), (1, ((7,), 3)), (3, ((0, 0, 0), 1)), (3, ((2, 0, 4), 3)), (2, ((6, 3), 2)), (2, ((2, 2), 1)),
-            (60, ((0,) * 59 + (1,), 10 ** 12)), (2, ((GREAT, 0), GREAT + 1)),
+            (1, ((0,), 1)), (1, ((7,), 3)), (3, ((0, 0, 0), 1)), (3, ((2, 0, 4), 3)), (2, ((6, 3), 2)),
+            (2, ((2, 2), 1)), (60, ((0,) * 59 + (1,), 10 ** 12)), (2, ((GREAT, 0), GREAT + 1)),
         ):
             self.same(is_load(size, thing), True, thing)
             self.same(is_load(size=size, thing=thing), True, thing)
@@ -173,8 +173,8 @@ class Loads(unittest.TestCase, Same):
 
     def test_refusals(self):
         load = ((3, 0, 2), 6)
-        empty_or_below = [(), [(1, 2)], None, True, "1/2", ((1, 2), None), ((-1, 2),), ((1, 2), (-1, 3)), ((2, 4),), (1, 2)]
-        check_refusals(self, load_of, [("quotients", ((1, 2), (0, 1)))], {"quotients": empty_or_below})
+        wrong = [(), [(1, 2)], None, True, "1/2", ((1, 2), None), ((-1, 2),), ((1, 2), (-1, 3)), ((2, 4),), (1, 2)]
+        check_refusals(self, load_of, [("quotients", ((1, 2), (0, 1)))], {"quotients": wrong})
         for wrong in bad_amounts():
             check_refusals(self, load_of, [("quotients", ((1, 2),))], {"quotients": [((0, 1), wrong)]})
         check_refusals(self, entry_of, [("load", load), ("place", 2)], {"place": bad_places(3)})

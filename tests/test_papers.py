@@ -93,7 +93,8 @@ class Papers(unittest.TestCase, Same):
             for _ in range(6):
                 thing = random_load(dice, size_of(web), 4)
                 if thing != table:
-                    self.assertEqual(type(raised(lets_room, web, start, rooms, ("table", thing))).__name__, "InvalidPaper")
+                    refusal = raised(lets_room, web, start, rooms, ("table", thing))
+                    self.assertEqual(type(refusal).__name__, "InvalidPaper")
 
     def test_closed_and_barred(self):
         for closed in bad_sets(3) + [(), (0,), (1,), (1, 2), (0, 1, 2), [2], "2"]:

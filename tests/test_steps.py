@@ -12,7 +12,8 @@ from stayorgo.stepping import shares_of, step_course, stepped, walked
 
 from tests.support import (
     ALONE, BOARD, CIRCLE, FORK, HALVES, ONE, THREE_LOTS, TURN, TWO_LOTS, WEBS, Same, bad_loads, bad_numbers, bad_sets,
-    check_refusals, load_of_values, random_load, random_web, size_of, slow_flow, slow_lots, step_values, subsets, values,
+    check_refusals, load_of_values, random_load, random_web, size_of, slow_flow, slow_lots, step_values, subsets,
+    values,
 )
 
 
@@ -69,7 +70,8 @@ class Steps(unittest.TestCase, Same):
     def test_shares_refuse(self):
         wrong = bad_sets(5) + [(), (0,), (3,), (4,), (2, 3), (2, 3, 4), (4, 3), [2], (2, True)]
         check_refusals(self, shares_of, [("web", TWO_LOTS), ("closed", (3, 4))], {"closed": wrong})
-        check_refusals(self, shares_of, [("web", TURN), ("closed", (0, 1))], {"closed": [(False, True), (0, True), (1,)]})
+        good = [("web", TURN), ("closed", (0, 1))]
+        check_refusals(self, shares_of, good, {"closed": [(False, True), (0, True), (1,)]})
 
 
 class Rings(unittest.TestCase, Same):
@@ -110,8 +112,7 @@ class Rings(unittest.TestCase, Same):
         for thing in ((), (0,), (1,), (0, 2), (1, 2, 3), (3, 3), (0, 1, 0, 1), (2, 3), (4,), (-1,), (0, 1, 2)):
             self.same(is_ring(BOARD, thing), False, thing)
         for thing in (None, True, 0, 3, "", "01", [3], [0, 1], (True, 0), (0, True), (False, 1), (None,), ("3",),
-                      ((3,),), (10 ** 59,), (3,) * 4000,
-                      ([3],), (3, [3]), (None, [0, 1])):
+                      ((3,),), (10 ** 59,), (3,) * 4000, ([3],), (3, [3]), (None, [0, 1])):
             self.same(is_ring(BOARD, thing), False, thing)
         self.same(is_ring(CIRCLE, thing=(2, 0, 1)), True)
         self.same(is_ring(CIRCLE, (2, 1, 0)), False)

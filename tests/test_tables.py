@@ -156,10 +156,12 @@ class Tables(unittest.TestCase, Same, CheckNoRoom):
                 self.refuses_room(web, there, nothing, table_of, web, there, nothing)
                 self.same(can_stay(web, scaled(there, (7, 2)), scaled(there, (10, 3))), False)
                 if len(lot) > 1:
-                    self.same(can_stay(web, scaled(there, (7, 2)), added(there, scaled(unit_load(size, lot[1]), (5, 2)))), True)
+                    rooms = added(there, scaled(unit_load(size, lot[1]), (5, 2)))
+                    self.same(can_stay(web, scaled(there, (7, 2)), rooms), True)
 
     def test_no_room_goes_by_a_last_set_that_holds_a_lot(self):
-        self.refuses_room(TWO_LOTS, unit_load(5, 0), ((0, 0, 5, 0, 0), 1), table_of, TWO_LOTS, unit_load(5, 0), ((0, 0, 5, 0, 0), 1))
+        start, rooms = unit_load(5, 0), ((0, 0, 5, 0, 0), 1)
+        self.refuses_room(TWO_LOTS, start, rooms, table_of, TWO_LOTS, start, rooms)
         self.same(fields_of(raised(table_of, FORK, ONE, ((0, 10, 3), 10))), ("NoRoom", ((2,), (1,))))
         self.same(fields_of(raised(table_of, TURN, ((1, 0), 1), ((1, 0), 2))), ("NoRoom", ((0, 1), ())))
 
@@ -244,7 +246,8 @@ class Ends(unittest.TestCase, Same, CheckNoRoom):
         check_refusals(self, with_more, good, bad)
         above = [((0, 1, 0), 10 ** 12), ((1, 0, 1), 1), ((11, 0, 20), 20), ((0, 0, 3), 2)]
         good = good[:3] + [("fewer", ((0, 0, 1), 1))]
-        check_refusals(self, with_less, good, {"start": bad_loads(3), "rooms": bad_loads(3), "fewer": bad_loads(3) + above})
+        bad = {"start": bad_loads(3), "rooms": bad_loads(3), "fewer": bad_loads(3) + above}
+        check_refusals(self, with_less, good, bad)
 
     def test_parameters_come_ahead_of_no_room(self):
         tight = no_load(3)

@@ -13,8 +13,8 @@ from stayorgo.webmaking import beside, row_of
 from stayorgo.webtexts import load_line, read_load, read_web, web_line
 
 from tests.support import (
-    ALONE, BOARD, FORK, HALVES, LADDER, ONE, TURN, WEBS, Same, bad_loads, bad_numbers, check_refusals, fields_of, raised,
-    random_load, random_web, refused_as,
+    ALONE, BOARD, FORK, HALVES, LADDER, ONE, TURN, WEBS, Same, bad_loads, bad_numbers, check_refusals, fields_of,
+    raised, random_load, random_web, refused_as,
 )
 from tests.test_webs import WRONG_WEBS
 
@@ -76,7 +76,8 @@ class Lines(unittest.TestCase, Same):
     def test_bent_texts(self):
         texts = ["", " ", "/", "/1", "1", "1/", "1/0", "1/1 ", " 1/1", "1/1/1", "1,/1", ",1/1", "1,,1/1", "1,0/01",
                  "01/1", "00/1", "-1/1", "+1/1", "1.0/1", "1/1,", "1/1;", "1;/1", ";1/1", "1;;1/1", "1,0;0,1/1", "a/1",
-                 "1/a", "1\n/1", "1/1\n", "0,01/1", "10,20/30", "1 ,0/1", "1, 0/1", "1/10", "0/1", "1/-1", "~", "1,1;1,1/2"]
+                 "1/a", "1\n/1", "1/1\n", "0,01/1", "10,20/30", "1 ,0/1", "1, 0/1", "1/10", "0/1", "1/-1", "~",
+                 "1,1;1,1/2"]
         for text in texts:
             self.told(read_load, LOAD_FORM, text)
             self.told(read_web, WEB_FORM, text)
@@ -180,7 +181,8 @@ class WebObjects(unittest.TestCase, Same):
 
     def test_read_line(self):
         for web in WEBS:
-            for net in (Web.read_line(web_line(web)), Web.read_line(text=web_line(web)), Web(TURN).read_line(web_line(web))):
+            line = web_line(web)
+            for net in (Web.read_line(line), Web.read_line(text=line), Web(TURN).read_line(line)):
                 self.assertIs(type(net), Web)
                 self.same(net.inner, web)
         for thing in NO_STRINGS:
