@@ -241,6 +241,83 @@ def go_first(web, start, allowance, many):
     return course
 
 
+class Walk:
+    """A rule walked by what stands, goes on and stays; goes_at(moment, place, what stands, kept, gone) tells what goes.
+
+    stands and goes have a list for each moment below many; kept has what had stayed with each of these moments, gone
+    what had passed before each moment from 0 to many.
+    """
+
+    def __init__(self, web, start, many, goes_at):
+        size = size_of(web)
+        stands, kept, gone = values(start), [Fraction(0)] * size, [Fraction(0)] * size
+        self.stands, self.goes, self.kept, self.gone = [], [], [], [gone]
+        for moment in range(many):
+            goes = [goes_at(moment, i, stands[i], kept[i], gone[i]) for i in range(size)]
+            assert all(0 <= one <= other for one, other in zip(goes, stands))
+            kept = [one + other - less for one, other, less in zip(kept, stands, goes)]
+            gone = [one + more for one, more in zip(gone, goes)]
+            self.stands.append(stands)
+            self.goes.append(goes)
+            self.kept.append(kept)
+            self.gone.append(gone)
+            stands = step_values(web, goes)
+        self.last = stands
+
+    def course(self):
+        return tuple(load_of_values(gone) for gone in self.gone)
+
+
+def stay_walk(web, start, rooms, many):
+    """Stay-first: of what stands as much stays as there is room left."""
+    room = values(rooms)
+    return Walk(web, start, many, lambda t, i, stands, kept, gone: stands - min(stands, room[i] - kept))
+
+
+def go_walk(web, start, allowance, many):
+    """Go-first: of what stands as much goes as the allowance still lets go."""
+    limit = values(allowance)
+    return Walk(web, start, many, lambda t, i, stands, kept, gone: min(stands, limit[i] - gone))
+
+
+def random_walk(dice, web, start, many):
+    """A rule that lets go some random share of what stands."""
+    shares = [Fraction(0), Fraction(1, 2), Fraction(1)]
+    return Walk(web, start, many, lambda t, i, stands, kept, gone: stands * dice.choice(shares))
+
+
+def load_as_heavy(dice, start):
+    """A random load of the start's weight."""
+    while True:
+        numbers = values(random_load(dice, len(start[0]), 6, 0.5))
+        if sum(numbers) > 0:
+            return load_of_values([number * sum(values(start)) / sum(numbers) for number in numbers])
+
+
+def wish_cases(seed, many=100, largest=5):
+    """Triples (web, start, wish), the wish being the end of some rule, the start itself, or any load of its weight."""
+    dice = random.Random(seed)
+    webs = [web for web in WEBS if size_of(web) <= largest] + [random_web(dice, largest) for _ in range(20)]
+    for turn in range(many):
+        web = webs[turn % len(webs)]
+        start = random_load(dice, size_of(web), 4)
+        if turn % 3 == 0:
+            wish = load_as_heavy(dice, start)
+        else:
+            walk = random_walk(dice, web, start, dice.randint(0, 3))
+            kept = walk.kept[-1] if walk.kept else [Fraction(0)] * size_of(web)
+            wish = load_of_values([one + other for one, other in zip(kept, walk.last)])
+        yield web, start, wish
+
+
+def sure_wishes(seed, many=100, largest=5):
+    """Quadruples (web, start, wish, table) of wishes that can be come to."""
+    for web, start, wish in wish_cases(seed, many, largest):
+        table = slow_table(web, start, wish)
+        if table is not None:
+            yield web, start, wish, table
+
+
 # Refusals
 
 def bad_loads(size):
@@ -280,6 +357,40 @@ def bad_quotients():
 def bad_amounts():
     """Values that are no quotients of at least 0."""
     return bad_quotients() + [(-1, 1), (-1, 2), (-10 ** 59, 1)]
+
+
+def bad_wishes(size):
+    """Values that are no loads of weight 1."""
+    unit = (1,) + (0,) * (size - 1)
+    return bad_loads(size) + [((0,) * size, 1), ((2,) + (0,) * (size - 1), 1), ((1,) * (size + 1), size), (unit, 2)]
+
+
+def bad_brink():
+    """Values that are no brinks."""
+    return [
+        True, 0, "0", (), (0,), [0, (0, 1)], (0, (0, 1), 0), (-1, (0, 1)), (True, (0, 1)), (None, (0, 1)), ("1", (0, 1)),
+        ((0, 1), 0), (0, (1, 1)), (0, (-1, 2)), (0, (3, 2)), (0, (2, 4)), (0, [1, 2]), (0, None), (0, 0), (0, (True, 2)),
+        (0, (0, True)), (0, (0, 2)),
+    ]
+
+
+def bad_brinks(size):
+    """Values that are no brinks of the size."""
+    held = (None,) * (size - 1)
+    return [None, True, 0, "", (), held, held + (None, None), [None] * size] + [held + (thing,) for thing in bad_brink()]
+
+
+def bad_coins(size):
+    """Values that are no coins of the size."""
+    held = ((1, 1),) * (size - 1)
+    things = bad_amounts() + [(2, 1), (3, 2), (10 ** 12 + 1, 10 ** 12)]
+    return [None, True, 1, "", (), held, held + ((1, 1),) * 2, [(1, 1)] * size] + [held + (thing,) for thing in things]
+
+
+def bad_prices(size):
+    """Values that are no prices of the size."""
+    load = ((1,) * size, 1)
+    return [None, True, 1, "", (), load, [load]] + [(load, thing) for thing in bad_loads(size)]
 
 
 def refused_as(function, arguments, names):

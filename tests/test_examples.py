@@ -126,6 +126,16 @@ False
 ((1, 0), 1)
 >>> lets_most(TURN, ((0, 0), 1), ((1, 1), 1), ((1, 1), 1))
 raises InvalidPaper('lot', 0)
+>>> from stayorgo.boths import can_both, spans
+>>> can_both(HALVES, ((1, 0), 1), ((1, 1), 2), ((1, 1), 2))
+False
+>>> spans(HALVES, ((1, 0), 1), ((1, 1), 2), ((1, 0), 1), 2)
+(((3, 0), 4), ((1, 0), 1))
+>>> from stayorgo.wishes import is_wish, wish_need, wish_table
+>>> wish_table(FORK, ONE, ((0, 1, 3), 4))
+((4, 1, 0), 4)
+>>> wish_need(FORK, ONE, ((0, 1, 3), 4))
+(5, 4)
 >>> from stayorgo.wastes import trimmed, waste_of, wasted
 >>> trimmed(TURN, ((2, 1), 1))
 ((1, 0), 1)
@@ -133,6 +143,73 @@ raises InvalidPaper('lot', 0)
 ((2, 1),)
 >>> wasted(FORK, ((4, 1, 0), 4), (2,), (3, 1))
 ((4, 1, 12), 4)
+>>> from stayorgo.passings import left_by, lets_passes
+>>> left_by(FORK, ONE, ((0, 1, 0), 1))
+None
+>>> lets_passes(TURN, ((0, 1), 1), ((2, 3), 1))
+((1, 0), 1)
+>>> lets_passes(TURN, ((0, 0), 1), ((1, 1), 1))
+raises InvalidPaper('lot', 0)
+>>> from stayorgo.needs import need_between, needs_of, round_trip
+>>> need_between(BOARD, 0, 3)
+(19, 3)
+>>> needs_of(FORK)
+(((0, 1), None, (3, 2)), (None, (0, 1), (1, 1)), (None, None, (0, 1)))
+>>> round_trip(HALVES, 0, 1)
+(4, 1)
+>>> from stayorgo.ways import goes_by, middle_need
+>>> middle_need(FORK, ONE, ((0, 1, 1), 2), ((0, 1, 3), 4))
+((1, 1), (1, 4), (5, 4))
+>>> goes_by(TURN, ((1, 0), 1), ((0, 1), 1), ((1, 0), 1))
+False
+>>> from stayorgo.wishclasses import Wish
+>>> one = Wish(FORK, ONE, ((0, 1, 3), 4))
+>>> one.least_need
+(5, 4)
+>>> list(one.never_passed())
+[((2,), 2)]
+>>> one.waste_by(one.with_waste((2,), factor=(3, 1)))
+((3, 1),)
+>>> Wish(FORK, ONE, ((0, 1, 1), 2)).going_on(((0, 1, 3), 4)).passed()
+((0, 1, 0), 4)
+>>> LEFT = ((1, 0), 1)
+>>> EVEN = ((1, 1), 2)
+>>> from stayorgo.coursekinds import is_course, kept_course, standing_course
+>>> GONE = (((0, 0), 1), ((1, 0), 2), ((3, 0), 4))
+>>> standing_course(HALVES, LEFT, GONE)
+(((1, 0), 1), ((1, 1), 4))
+>>> kept_course(HALVES, LEFT, GONE)
+(((1, 0), 2), ((2, 1), 4))
+>>> from stayorgo.courses import go_course, stay_course
+>>> stay_course(HALVES, LEFT, EVEN, 2)
+(((0, 0), 1), ((1, 0), 2), ((3, 0), 4))
+>>> go_course(HALVES, LEFT, LEFT, 1)
+(((0, 0), 1), ((1, 0), 1))
+>>> from stayorgo.rests import is_done_by, rest_after, rest_course
+>>> rest_after(FORK, ((4, 1, 0), 4), ((0, 1, 3), 4))
+((0, 1, 0), 4)
+>>> from stayorgo.brinks import go_brinks, stay_brinks
+>>> go_brinks(HALVES, LEFT, LEFT, 3)
+((1, (0, 1)), (1, (0, 1)))
+>>> stay_brinks(HALVES, LEFT, EVEN, 3)
+((0, (1, 2)), None)
+>>> from stayorgo.brinkcourses import go_by
+>>> go_by(TURN, LEFT, ((2, (1, 2)), None), 3)
+(((0, 0), 1), ((1, 0), 1), ((1, 1), 1), ((3, 2), 2))
+>>> from stayorgo.brinkends import go_end
+>>> go_end(TURN, LEFT, ((2, (1, 2)), None))
+(((1, 0), 1), ((3, 3), 2))
+>>> go_end(TURN, LEFT, (None, None))
+raises Endless((0, 1))
+>>> from stayorgo.coins import coin_of
+>>> coin_of(HALVES, LEFT, EVEN)
+((1, 3), (1, 1))
+>>> from stayorgo.prices import coin_price, go_price, stay_price
+>>> DEARER = (((1, 1), 1), ((2, 2), 1))
+>>> (go_price(HALVES, LEFT, EVEN, DEARER), stay_price(HALVES, LEFT, EVEN, DEARER))
+((1, 1), (3, 2))
+>>> coin_price(HALVES, LEFT, ((1, 3), (1, 1)), DEARER)
+(4, 3)
 >>> table_of(FORK, ONE, ((0, 1, 1), 2))
 ((1, 0, 0), 1)
 >>> can_stay(FORK, ONE, ((0, 10, 3), 10))
@@ -147,6 +224,14 @@ False
 ((0, 1, 3), 4)
 >>> table_of(HALVES, ((1, 0), 1), ((1, 1), 2))
 ((1, 0), 1)
+>>> go_course(HALVES, LEFT, wish_table(HALVES, LEFT, EVEN), 3)
+(((0, 0), 1), ((1, 0), 1), ((1, 0), 1), ((1, 0), 1))
+>>> is_done_by(HALVES, LEFT, EVEN, 1)
+True
+>>> rest_course(HALVES, LEFT, EVEN, 2)
+(((1, 0), 1), ((0, 0), 1), ((0, 0), 1))
+>>> stay_course(HALVES, LEFT, EVEN, 3)
+(((0, 0), 1), ((1, 0), 2), ((3, 0), 4), ((7, 0), 8))
 """
 
 

@@ -35,23 +35,55 @@ mosts: come_places(web, start, allowance), most_of(web, start, allowance), last_
 spares: spare_of(web, start, allowance), more_allowance(web, start, allowance, extra)
 spares: more_start(web, start, allowance, extra)
 mostchecker: lets_most(web, start, allowance, thing)
+boths: can_both(web, start, rooms, allowance), spans(web, start, rooms, allowance, many)
+wishes: is_wish(web, start, thing), wish_table(web, start, wish), wish_need(web, start, wish)
 wastes: trimmed(web, passes), waste_of(web, passes), wasted(web, passes, closed, factor)
+passings: left_by(web, start, passes), are_passes(web, start, passes), lets_passes(web, start, thing)
+needs: need_between(web, here, there), needs_of(web), round_trip(web, here, there)
+ways: middle_need(web, start, middle, wish), goes_by(web, start, middle, wish)
+coursekinds: is_course(web, start, thing), standing_course(web, start, course), kept_course(web, start, course)
+courses: stay_course(web, start, rooms, many), go_course(web, start, allowance, many)
+rests: rest_after(web, rest, wish), rest_course(web, start, wish, many), is_done_by(web, start, wish, many)
+brinks: is_brink(thing), is_brinks(size, thing), go_brinks(web, start, allowance, many)
+brinks: stay_brinks(web, start, rooms, many)
+brinkcourses: go_by(web, start, brinks, many), stay_by(web, start, brinks, many)
+brinkends: go_end(web, start, brinks), stay_end(web, start, brinks), is_least_go(web, start, brinks)
+coins: is_coins(size, thing), coin_of(web, start, wish), coin_course(web, start, coins, many)
+coins: coin_end(web, start, coins), is_least_coin(web, start, coins)
+prices: is_prices(size, thing), never_fall(size, prices), never_rise(size, prices), go_price(web, start, wish, prices)
+prices: stay_price(web, start, wish, prices), coin_price(web, start, coins, prices)
 """
 
+# After the signature of the class itself: its methods; its properties, with "@"; its generators, with "*".
 CLASSES = {
-    ("webclasses", "Web"): """(web), walk(start, *, many=1), read_line(text), __len__(), __iter__(),
-        __contains__(thing), __eq__(other), __call__(start), __add__(other)""",
-    ("roomclasses", "Rooms"): """(web, start, rooms), given(), fits(), find_table(), find_end(), find_left(),
-        find_need(), find_gaps(), find_help(place), find_share(), find_paper(), judge(thing), takes_end(target),
-        and_more(extra), with_fewer(fewer)""",
+    ("webclasses", "Web"): """(web); walk(start, *, many=1); read_line(text); __len__(); __iter__(); __contains__(thing);
+        __eq__(other); __call__(start); __add__(other)""",
+    ("roomclasses", "Rooms"): """(web, start, rooms); given(); fits(); find_table(); find_end(); find_left(); find_need();
+        find_gaps(); find_help(place); find_share(); find_paper(); judge(thing); takes_end(target); and_more(extra);
+        with_fewer(fewer)""",
+    ("wishclasses", "Wish"): """(web, start, wish); told(); passed(); @least_need; *never_passed(); is_met_by(thing);
+        waste_by(passes); with_waste(closed, *, factor=(1, 1)); going_on(wish); leads_by(middle); __eq__(other)""",
 }
+CLASS_METHODS = (("webclasses", "Web", "read_line"),)
+
+
+def module_of(name):
+    return importlib.import_module("stayorgo." + name)
 
 
 def parts_of(text):
     """The pairs of a name and its parameters in a list of signatures."""
-    for part in text.replace("\n", " ").split("),"):
+    for part in text.split("),"):
         name, _, rest = part.strip().rstrip(")").partition("(")
         yield name.strip(), "(" + rest + ")"
+
+
+def signature_of(held, method):
+    """The signature of a method without its own object."""
+    inner = vars(held)[method]
+    if isinstance(inner, classmethod):
+        return str(inspect.signature(getattr(held, method)))
+    return str(inspect.signature(inner)).replace("(self, ", "(").replace("(self)", "()")
 
 
 class Interface(unittest.TestCase):
@@ -59,28 +91,27 @@ class Interface(unittest.TestCase):
         told = 0
         for line in FUNCTIONS.strip().split("\n"):
             module, _, rest = line.partition(":")
-            held = importlib.import_module("stayorgo." + module)
             for name, signature in parts_of(rest):
-                function = getattr(held, name)
+                function = getattr(module_of(module), name)
                 self.assertTrue(inspect.isfunction(function), name)
                 self.assertEqual(function.__module__, "stayorgo." + module, name)
                 self.assertEqual(str(inspect.signature(function)), signature, name)
                 told += 1
-        self.assertEqual(told, 81)
+        self.assertEqual(told, 122)
 
     def test_classes(self):
         for (module, name), text in CLASSES.items():
-            held = getattr(importlib.import_module("stayorgo." + module), name)
+            held = getattr(module_of(module), name)
             self.assertEqual(held.__module__, "stayorgo." + module)
-            for method, signature in parts_of(text):
-                if method == "":
-                    self.assertEqual(str(inspect.signature(held)), signature)
-                    continue
+            first, *parts = [part.strip() for part in text.split(";")]
+            self.assertEqual(str(inspect.signature(held)), first)
+            for part in parts:
+                method, _, rest = part.strip("@*").partition("(")
                 self.assertIn(method, vars(held))
                 inner = vars(held)[method]
-                if isinstance(inner, classmethod):
-                    shown = str(inspect.signature(getattr(held, method)))
-                else:
-                    shown = str(inspect.signature(inner)).replace("(self, ", "(").replace("(self)", "()")
-                self.assertEqual(shown, signature, method)
-        self.assertIsInstance(vars(importlib.import_module("stayorgo.webclasses").Web)["read_line"], classmethod)
+                self.assertEqual(isinstance(inner, property), part.startswith("@"), method)
+                self.assertEqual(inspect.isgeneratorfunction(inner), part.startswith("*"), method)
+                if not part.startswith("@"):
+                    self.assertEqual(signature_of(held, method), "(" + rest, method)
+        for module, name, method in CLASS_METHODS:
+            self.assertIsInstance(vars(getattr(module_of(module), name))[method], classmethod)

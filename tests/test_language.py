@@ -34,7 +34,7 @@ STATEMENTS = (
 EXPRESSIONS = (
     ast.BoolOp, ast.BinOp, ast.UnaryOp, ast.IfExp, ast.Dict, ast.Set, ast.ListComp, ast.DictComp, ast.SetComp,
     ast.Compare, ast.Call, ast.JoinedStr, ast.FormattedValue, ast.Constant, ast.Attribute, ast.Subscript, ast.Starred,
-    ast.Name, ast.List, ast.Tuple, ast.Slice,
+    ast.Name, ast.List, ast.Tuple, ast.Slice, ast.Yield,
 )
 ITERATORS = ("list", "tuple", "dict", "sorted", "sum", "any", "all", "enumerate", "zip", "min", "max")
 
@@ -300,6 +300,58 @@ class Language(unittest.TestCase):
                     self.assertFalse(isinstance(held.func.value, ast.Name) and held.func.value.id in over, where)
                 if isinstance(held, ast.Subscript) and isinstance(held.ctx, (ast.Store, ast.Del)):
                     self.assertFalse(isinstance(held.value, ast.Name) and held.value.id in over, where)
+
+    def test_generators(self):
+        made = [node.parent for _, node in self.each(ast.Yield)]
+        self.assertTrue(all(isinstance(held, ast.Expr) for held in made))
+        functions = [node for _, node in self.each(ast.FunctionDef)]
+        makers = [node for node in functions if any(isinstance(held, ast.Yield) for held in ast.walk(node))]
+        for node in makers:
+            self.assertEqual(node.decorator_list, [])
+            self.assertFalse(node.name.startswith("__") or node.name in METHODS, node.name)
+            self.assertEqual([held.name for held in functions].count(node.name), 1, node.name)
+            for held in ast.walk(node):
+                self.assertFalse(isinstance(held, (ast.Try, ast.With)), node.name)
+                self.assertFalse(isinstance(held, ast.Return) and held.value is not None, node.name)
+
+    def test_signs_and_properties_change_nothing(self):
+        defined = {}
+        for _, node in self.each(ast.FunctionDef):
+            defined.setdefault(node.name, []).append(node)
+        open_ones = [
+            node for held in defined.values() for node in held
+            if (node.name in DUNDERS - {"__init__", "__call__", "__iter__"})
+            or any(mark.id == "property" for mark in node.decorator_list)
+        ]
+        seen = []
+        while open_ones:
+            node = open_ones.pop()
+            if node in seen:
+                continue
+            seen.append(node)
+            self.check_changes_nothing(node)
+            for held in ast.walk(node):
+                if isinstance(held, ast.Call):
+                    name = held.func.id if isinstance(held.func, ast.Name) else held.func.attr
+                    open_ones += defined.get(name, [])
+        self.assertGreater(len(seen), 10)
+
+    def check_changes_nothing(self, node):
+        fresh = (ast.List, ast.ListComp)
+        for held in ast.walk(node):
+            if isinstance(held, (ast.Attribute, ast.Subscript)):
+                self.assertIsInstance(held.ctx, ast.Load, node.name)
+            if isinstance(held, ast.AugAssign):
+                self.assertTrue(isinstance(held.target, ast.Name) and isinstance(held.value, ast.Constant), node.name)
+            if isinstance(held, ast.Call) and isinstance(held.func, ast.Attribute) and held.func.attr == "append":
+                name = held.func.value.id
+                made = [
+                    one.value for one in ast.walk(node)
+                    if isinstance(one, ast.Assign) and any(getattr(t, "id", None) == name for t in one.targets)
+                ]
+                self.assertTrue(made and all(isinstance(one, fresh) for one in made), node.name)
+            if isinstance(held, ast.Call) and isinstance(held.func, ast.Attribute):
+                self.assertNotIn(held.func.attr, ("extend", "insert", "pop", "remove", "reverse", "clear", "update"))
 
     def test_any_and_the_like_take_lists(self):
         # A class has an __eq__, so no generator expression stands anywhere.
