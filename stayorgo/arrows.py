@@ -9,13 +9,13 @@ def next_places(web, place):
     return tuple([j for j, number in enumerate(web[0][place]) if number > 0])
 
 
-def reached_through(web, begins, through):
-    """The least set with those of begins and, with each of its places in through, all next places of it."""
+def reached_through(web, begins, passable):
+    """The least set with those of begins and, with each of its places that is passable, all next places of it."""
     held = ()
     wider = begins
     while held != wider:
         held = wider
-        wider = tuple(sorted(set(held) | {j for i in held if i in through for j in next_places(web, i)}))
+        wider = tuple(sorted(set(held) | {j for i in held if i in passable for j in next_places(web, i)}))
     return held
 
 

@@ -22,9 +22,9 @@ class Wish:
         self.table = wish_table(web, start, wish)
 
     def __eq__(self, other):
-        if not isinstance(other, Wish):
-            return False
-        return self.web == other.web and self.start == other.start and self.wish == other.wish
+        return (
+            isinstance(other, Wish) and self.web == other.web and self.start == other.start and self.wish == other.wish
+        )
 
     def told(self):
         """The triple (web, start, wish)."""

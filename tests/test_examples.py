@@ -210,6 +210,56 @@ raises Endless((0, 1))
 ((1, 1), (3, 2))
 >>> coin_price(HALVES, LEFT, ((1, 3), (1, 1)), DEARER)
 (4, 3)
+>>> from stayorgo.twolines import alike_prices, first_fall, first_rise, two_lines
+>>> two_lines(0)
+((((0, 1, 0), (0, 0, 1), (0, 0, 1)), 1), ((1, 1, 0), 2), ((0, 1, 1), 2))
+>>> first_fall(((1, 1), (2, 1), (1, 2)))
+1
+>>> from stayorgo.clockclasses import Clock
+>>> clock = Clock(HALVES, LEFT, EVEN)
+>>> (clock.tick(), clock.both_rests(), bool(clock))
+(1, (((1, 0), 2), ((0, 0), 1)), False)
+>>> BEGIN = ((1, 0, 0, 0), 1)
+>>> LAST = ((0, 0, 0, 1), 1)
+>>> LATER = ((0, 1, 3), 4)
+>>> from stayorgo.deadlines import deadline_of, has_deadline
+>>> (has_deadline(BOARD, BEGIN, LAST), deadline_of(FORK, ONE, LATER))
+(False, 2)
+>>> from stayorgo.lastings import idle_ring, lasting_places, place_deadlines
+>>> (lasting_places(BOARD, BEGIN, LAST), place_deadlines(FORK, ONE, LATER))
+((0, 1, 2), (1, 2, 0))
+>>> from stayorgo.deadlinepapers import deadline_paper, lets_deadline
+>>> lets_deadline(BOARD, BEGIN, LAST, ("ring", (1, 0)))
+False
+>>> lets_deadline(FORK, ONE, LATER, ("done", 10 ** 59))
+raises InvalidPaper('sooner', 1)
+>>> DAYS = ((((1, 0), 1), ((1, 0), 2)), (((0, 1), 2), ((1, 1), 1)))
+>>> from stayorgo.timecourses import time_course, time_kept
+>>> (time_course(HALVES, DAYS, 1), time_kept(HALVES, DAYS, 2))
+((((0, 0), 1), ((1, 0), 2)), (((1, 0), 2), ((3, 3), 4)))
+>>> from stayorgo.timerests import at_rest
+>>> at_rest(HALVES, DAYS)
+(((1, 3), 4), ((1, 2), 2))
+>>> from stayorgo.timeends import time_end, time_passes
+>>> (time_passes(HALVES, DAYS), time_end(HALVES, DAYS))
+(((1, 0), 2), ((3, 3), 4))
+>>> from stayorgo.timetexts import read_timetable, timetable_line
+>>> timetable_line(DAYS)
+'1,0/1<1,0/2 0,1/2<1,1/1'
+>>> read_timetable("1,0/1<1,0")
+raises InvalidText(0, 9)
+>>> from stayorgo.timeclasses import Times
+>>> times = Times(HALVES, DAYS).next_moment(((0, 1), 1))
+>>> (times.can_hold(), times.all_comings)
+(False, ((2, 3), 2))
+>>> from stayorgo.machinechecker import lets_machine
+>>> lets_machine(1, ((1,), (((2,),),), 1))
+raises InvalidPaper('sum', (0, 0))
+>>> from stayorgo.machinemaking import coin_machine, go_machine, stay_machine, waits_machine
+>>> waits_machine(2, 1)
+((1, 0), (((0, 1), (0, 1)), ((0, 0), (0, 0))), 1)
+>>> go_machine(((0, (1, 2)), None))
+((2, 0), (((0, 1), (0, 2)), ((0, 0), (0, 2))), 2)
 >>> table_of(FORK, ONE, ((0, 1, 1), 2))
 ((1, 0, 0), 1)
 >>> can_stay(FORK, ONE, ((0, 10, 3), 10))

@@ -52,6 +52,20 @@ coins: is_coins(size, thing), coin_of(web, start, wish), coin_course(web, start,
 coins: coin_end(web, start, coins), is_least_coin(web, start, coins)
 prices: is_prices(size, thing), never_fall(size, prices), never_rise(size, prices), go_price(web, start, wish, prices)
 prices: stay_price(web, start, wish, prices), coin_price(web, start, coins, prices)
+twolines: two_lines(many), first_fall(numbers), first_rise(numbers), alike_prices(size, numbers)
+deadlines: has_deadline(web, start, wish), deadline_of(web, start, wish)
+lastings: idle_ring(web, start, wish), lasting_places(web, start, wish), place_deadlines(web, start, wish)
+deadlinepapers: deadline_paper(web, start, wish), lets_deadline(web, start, wish, thing)
+timechecker: lets_timetable(size, thing), is_timetable(size, thing)
+timemaking: steady_timetable(size, comings, rooms), opened(size, timetable), gathered(size, timetable)
+timemaking: coming_in_all(size, timetable)
+timecourses: time_course(web, timetable, many), time_kept(web, timetable, many)
+timerests: at_rest(web, timetable)
+timeends: can_keep(web, timetable), time_passes(web, timetable), time_end(web, timetable)
+timeends: is_time_course(web, timetable, thing), keeps_to(web, timetable, course)
+timetexts: timetable_line(timetable), read_timetable(text)
+machinechecker: lets_machine(size, thing), is_machine(size, thing)
+machinemaking: waits_machine(size, many), coin_machine(coins), go_machine(brinks), stay_machine(brinks)
 """
 
 # After the signature of the class itself: its methods; its properties, with "@"; its generators, with "*".
@@ -63,8 +77,14 @@ CLASSES = {
         with_fewer(fewer)""",
     ("wishclasses", "Wish"): """(web, start, wish); told(); passed(); @least_need; *never_passed(); is_met_by(thing);
         waste_by(passes); with_waste(closed, *, factor=(1, 1)); going_on(wish); leads_by(middle); __eq__(other)""",
+    ("clockclasses", "Clock"): """(web, start, wish); @moment_now; tick(*, many=1); both_passes(); both_rests();
+        look_ahead(many); *moments_to(many); both_brinks(many); price_by(prices, *, manner='go'); __eq__(other);
+        __bool__()""",
+    ("timeclasses", "Times"): """(web, timetable); @all_comings; @told_line; both_given(); passes_to(many); stays_to(many);
+        at_last(); can_hold(); passes_in_all(); stays_in_all(); is_kept_by(course); next_moment(coming, *, rooms=None);
+        delayed(*, many=1); read_times(web, text); *through(); __len__(); __iter__(); __eq__(other)""",
 }
-CLASS_METHODS = (("webclasses", "Web", "read_line"),)
+CLASS_METHODS = (("webclasses", "Web", "read_line"), ("timeclasses", "Times", "read_times"))
 
 
 def module_of(name):
@@ -97,7 +117,7 @@ class Interface(unittest.TestCase):
                 self.assertEqual(function.__module__, "stayorgo." + module, name)
                 self.assertEqual(str(inspect.signature(function)), signature, name)
                 told += 1
-        self.assertEqual(told, 122)
+        self.assertEqual(told, 155)
 
     def test_classes(self):
         for (module, name), text in CLASSES.items():
