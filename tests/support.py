@@ -452,3 +452,162 @@ class Same:
     def refuses_paper(self, word, at, function, *arguments):
         refusal = raised(function, *arguments)
         self.same(fields_of(refusal), ("InvalidPaper", (word, at)), arguments)
+
+
+# Machines
+
+def random_shares(dice, many, bottom):
+    """Numbers, so many, with a sum of at most the bottom."""
+    row, left = [0] * many, dice.choice((bottom, bottom, dice.randint(0, bottom), 0))
+    for _ in range(left):
+        row[dice.randrange(many)] += 1
+    return row
+
+
+def lowest_machine(firsts, goes, bottom):
+    """The machine of these numbers over the bottom, in lowest terms."""
+    common = bottom
+    for number in list(firsts) + [number for rows in goes for row in rows for number in row]:
+        common = gcd(common, number)
+    return (
+        tuple(number // common for number in firsts),
+        tuple(tuple(tuple(number // common for number in row) for row in rows) for rows in goes),
+        bottom // common,
+    )
+
+
+def machine_of_values(firsts, goes):
+    """The machine of these fractions."""
+    bottom = 1
+    for number in list(firsts) + [number for rows in goes for row in rows for number in row]:
+        bottom = bottom * number.denominator // gcd(bottom, number.denominator)
+    whole = [[[int(number * bottom) for number in row] for row in rows] for rows in goes]
+    return lowest_machine([int(number * bottom) for number in firsts], whole, bottom)
+
+
+def random_machine(dice, size, memories=None):
+    many = memories or dice.randint(1, 3)
+    bottom = dice.randint(1, 5)
+    firsts = [0] * many
+    for _ in range(bottom):
+        firsts[dice.randrange(many)] += 1
+    goes = [[random_shares(dice, many, bottom) for _ in range(size)] for _ in range(many)]
+    return lowest_machine(firsts, goes, bottom)
+
+
+def machine_values(machine):
+    """The firsts and the goes of a machine, as fractions."""
+    firsts, goes, bottom = machine
+    return (
+        [Fraction(first, bottom) for first in firsts],
+        [[[Fraction(number, bottom) for number in row] for row in rows] for rows in goes],
+    )
+
+
+class MachineWalk:
+    """A machine walked moment by moment.
+
+    stands has for each moment from 0 to many, and each memory, what stands there, without what stayed earlier; goes and
+    kept have what goes on, and what stays, at the moments below many; gone has the passes before each moment.
+    """
+
+    def __init__(self, web, start, machine, many):
+        firsts, goes = machine_values(machine)
+        memories, places = range(len(firsts)), range(size_of(web))
+        stands = [[first * one for one in values(start)] for first in firsts]
+        self.stands, self.goes, self.kept, self.gone = [stands], [], [], [[Fraction(0)] * size_of(web)]
+        for _ in range(many):
+            moved = [[sum(stands[s][i] * goes[s][i][q] for s in memories) for i in places] for q in memories]
+            left = [sum(stands[s][i] * (1 - sum(goes[s][i])) for s in memories) for i in places]
+            self.goes.append([sum(row[i] for row in moved) for i in places])
+            self.kept.append(left)
+            self.gone.append([one + more for one, more in zip(self.gone[-1], self.goes[-1])])
+            stands = [step_values(web, row) for row in moved]
+            self.stands.append(stands)
+
+    def course(self):
+        return tuple(load_of_values(numbers) for numbers in self.gone)
+
+
+def flooded(web, start, machine):
+    """The pairs to which something comes, and for each of them the set of the pairs that it leads to."""
+    firsts, goes, _ = machine
+    leads = {
+        (s, i): {
+            (q, j) for q in range(len(firsts)) for j in range(size_of(web)) if goes[s][i][q] > 0 and web[0][i][j] > 0
+        }
+        for s in range(len(firsts)) for i in range(size_of(web))
+    }
+    found = []
+    queue = [(s, i) for s in range(len(firsts)) for i in range(size_of(web)) if firsts[s] * start[0][i] > 0]
+    while queue:
+        pair = queue.pop()
+        if pair not in found:
+            found.append(pair)
+            queue += leads[pair]
+    return {pair: leads[pair] for pair in sorted(found)}
+
+
+def slow_stuck(web, start, machine):
+    """The pairs from which no way leads to something that stays, by trying all ways pair by pair."""
+    leads = flooded(web, start, machine)
+    stuck = []
+    for pair in leads:
+        seen, queue = set(), [pair]
+        while queue:
+            held = queue.pop()
+            if held not in seen:
+                seen.add(held)
+                queue += leads[held]
+        if all(sum(machine[1][s][i]) == machine[2] for s, i in seen):
+            stuck.append(pair)
+    return tuple(stuck)
+
+
+def slow_machine_end(web, start, machine):
+    """The pair (end, passes) as fractions, each memory's visits solved for by fractions; the machine is sure."""
+    firsts, goes = machine_values(machine)
+    pairs = list(flooded(web, start, machine))
+    stand = values(start)
+    matrix = [
+        [(one == other) - goes[other[0]][other[1]][one[0]] * chance(web, other[1], one[1]) for other in pairs]
+        for one in pairs
+    ]
+    visits = dict(zip(pairs, solve(matrix, [firsts[s] * stand[i] for s, i in pairs]) if pairs else []))
+    end, passes = [Fraction(0)] * size_of(web), [Fraction(0)] * size_of(web)
+    for (s, i), number in visits.items():
+        end[i] += number * (1 - sum(goes[s][i]))
+        passes[i] += number * sum(goes[s][i])
+    return end, passes
+
+
+def machine_cases(seed, many=100, largest=4):
+    """Quadruples (dice, web, start, machine)."""
+    dice = random.Random(seed)
+    webs = [web for web in WEBS if size_of(web) <= largest] + [random_web(dice, largest) for _ in range(20)]
+    for turn in range(many):
+        web = webs[turn % len(webs)]
+        start = random_load(dice, size_of(web), 3, 0.6 if turn % 7 else 1)
+        yield dice, web, start, random_machine(dice, size_of(web))
+
+
+def sure_machines(seed, many=100, largest=4):
+    """Those of the cases in which the machine is sure."""
+    for dice, web, start, machine in machine_cases(seed, many, largest):
+        if not slow_stuck(web, start, machine):
+            yield dice, web, start, machine
+
+
+def bad_machines(size):
+    """Values that are no machines of the size."""
+    held = ((0,),) * size
+    goes = (held,)
+    return [
+        None, True, 1, "", "1:0/1", (), [], ((1,), goes), ((1,), goes, 1, 1), [(1,), goes, 1], ((1,), goes, 0),
+        ((1,), goes, True), ((1,), goes, None), ((1,), goes, "1"), ([1], goes, 1), ((), (), 1), ((True,), goes, 1),
+        ((2,), goes, 1), ((0,), goes, 1), ((1, 0), goes, 1), ((1,), [held], 1), ((1,), (), 1), ((1,), (list(held),), 1),
+        ((1,), (held + ((0,),),), 1), ((1,), (held[1:],), 1), ((1,), (held[1:] + ((2,),),), 1),
+        ((1,), (held[1:] + ((0, 0),),), 1), ((1,), (held[1:] + ([0],),), 1), ((1,), (held[1:] + ((False,),),), 1),
+        ((1,), (held[1:] + ((None,),),), 1), ((1,), (held[1:] + ((-1,),),), 1), ((1,), (held[1:] + (("0",),),), 1),
+        ((2,), goes, 2), ((3, 3), (((0, 0),) * size,) * 2, 6), ((1,), ((None,) * size,), 1), ((1,), (None,), 1),
+    ]

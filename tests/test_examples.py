@@ -260,6 +260,61 @@ raises InvalidPaper('sum', (0, 0))
 ((1, 0), (((0, 1), (0, 1)), ((0, 0), (0, 0))), 1)
 >>> go_machine(((0, (1, 2)), None))
 ((2, 0), (((0, 1), (0, 2)), ((0, 0), (0, 2))), 2)
+>>> ONCE = waits_machine(2, 1)
+>>> COIN = coin_machine(((1, 3), (1, 1)))
+>>> from stayorgo.machinepairs import pairs_of, staying_pairs
+>>> (pairs_of(TURN, LEFT, ONCE), staying_pairs(TURN, LEFT, ONCE))
+(((0, 0), (1, 1)), ((1, 1),))
+>>> from stayorgo.machinecourses import machine_course, memory_course
+>>> machine_course(HALVES, LEFT, COIN, 2)
+(((0, 0), 1), ((2, 0), 3), ((8, 0), 9))
+>>> memory_course(TURN, LEFT, ONCE, 1)
+((((1, 0), 1), ((0, 0), 1)), (((0, 0), 1), ((0, 1), 1)))
+>>> from stayorgo.machineends import machine_end
+>>> machine_end(HALVES, LEFT, COIN)
+(((1, 1), 2), ((1, 0), 1))
+>>> machine_end(TURN, LEFT, coin_machine(((0, 1), (0, 1))))
+raises Endless(((0, 0), (0, 1)))
+>>> from stayorgo.machinewastes import better_table
+>>> better_table(TURN, LEFT, waits_machine(2, 2))
+(((1, 0), 1), ((0, 0), 1), (2, 1))
+>>> from stayorgo.behinds import behind
+>>> behind(1, waits_machine(1, 1), waits_machine(1, 1))
+((1, 0, 0, 0), (((0, 1, 0, 0),), ((0, 0, 0, 1),), ((0, 0, 0, 1),), ((0, 0, 0, 0),)), 1)
+>>> from stayorgo.twos import later
+>>> later(1, coin_machine(((1, 2),)), coin_machine(((1, 2),)))
+((4, 0, 0), (((1, 1, 1),), ((0, 2, 0),), ((0, 0, 2),)), 4)
+>>> from stayorgo.machinetexts import machine_line, read_machine
+>>> machine_line(2, ONCE)
+'1,0:0,1;0,1:0,0;0,0/1'
+>>> read_machine(1, "1:2/1")
+raises InvalidRow(1)
+>>> from stayorgo.machineclasses import Machine
+>>> tool = Machine.of_text(2, "1,0:0,1;0,1:0,0;0,0/1")
+>>> (tool(TURN, LEFT), (tool >> tool).memories, list(tool.moments_on(TURN, LEFT, 1)))
+((((0, 1), 1), ((1, 0), 1)), 4, [((1, 0), 1), ((0, 1), 1)])
+>>> from stayorgo.cuts import cut_web, filled_back
+>>> cut_web(BOARD, (1,))
+(((4, 4, 0), (1, 1, 6), (0, 0, 8)), 8)
+>>> filled_back(BOARD, (1,), ((1, 0, 0, 0), 1), ((7, 4, 0), 3))
+((7, 8, 4, 0), 3)
+>>> from stayorgo.lumpkinds import first_unlike
+>>> first_unlike(FORK, ((0, 1), (2,)))
+(0, 0, 1, 0)
+>>> from stayorgo.lumpings import coarsest, lumped_web
+>>> from stayorgo.webmaking import ring_web
+>>> lumped_web(ring_web(4), ((0, 2), (1, 3)))
+(((0, 1), (1, 0)), 1)
+>>> coarsest(FORK, ((0, 1), (2,)))
+((0,), (1,), (2,))
+>>> from stayorgo.splits import copies_of, split_web
+>>> split_web(TURN, 1, ((1, 2), 3))
+(((0, 1, 2), (3, 0, 0), (3, 0, 0)), 3)
+>>> copies_of(3, 1, 2)
+((0,), (1, 2), (3,))
+>>> from stayorgo.renamings import renamed_load
+>>> renamed_load(3, (2, 0, 1), ((5, 6, 7), 8))
+((6, 7, 5), 8)
 >>> table_of(FORK, ONE, ((0, 1, 1), 2))
 ((1, 0, 0), 1)
 >>> can_stay(FORK, ONE, ((0, 10, 3), 10))

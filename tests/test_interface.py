@@ -66,6 +66,20 @@ timeends: is_time_course(web, timetable, thing), keeps_to(web, timetable, course
 timetexts: timetable_line(timetable), read_timetable(text)
 machinechecker: lets_machine(size, thing), is_machine(size, thing)
 machinemaking: waits_machine(size, many), coin_machine(coins), go_machine(brinks), stay_machine(brinks)
+machinepairs: pairs_of(web, start, machine), staying_pairs(web, start, machine), stuck_pairs(web, start, machine)
+machinepairs: is_sure(web, start, machine)
+machinecourses: machine_course(web, start, machine, many), memory_course(web, start, machine, many)
+machineends: machine_end(web, start, machine)
+machinewastes: machine_waste(web, start, machine), better_table(web, start, machine)
+behinds: behind(size, one, other), mixed(size, one, other, part)
+twos: sooner(size, one, other), later(size, one, other)
+machineprices: machine_price(web, start, machine, prices)
+machinetexts: machine_line(size, machine), read_machine(size, text)
+cuts: cut_web(web, places), cut_load(web, places, start), filled_back(web, places, start, passes)
+lumpkinds: is_parts(size, thing), is_lumping(web, thing), first_unlike(web, parts)
+lumpings: lumped_web(web, parts), lumped_load(size, parts, load), coarsest(web, parts)
+splits: split_web(web, place, spread), split_load(size, place, spread, load), copies_of(size, place, many)
+renamings: is_order(size, thing), renamed_web(web, order), renamed_load(size, order, load), turned_order(size, order)
 """
 
 # After the signature of the class itself: its methods; its properties, with "@"; its generators, with "*".
@@ -83,8 +97,13 @@ CLASSES = {
     ("timeclasses", "Times"): """(web, timetable); @all_comings; @told_line; both_given(); passes_to(many); stays_to(many);
         at_last(); can_hold(); passes_in_all(); stays_in_all(); is_kept_by(course); next_moment(coming, *, rooms=None);
         delayed(*, many=1); read_times(web, text); *through(); __len__(); __iter__(); __eq__(other)""",
+    ("machineclasses", "Machine"): """(size, machine); surely(web, start); course_on(web, start, *, many=1);
+        *moments_on(web, start, many); waste_on(web, start); price_on(web, start, prices); mix(other, *, part=(1, 2));
+        of_text(size, text); __eq__(other); __call__(web, start); __rshift__(other); __and__(other); __or__(other)""",
 }
-CLASS_METHODS = (("webclasses", "Web", "read_line"), ("timeclasses", "Times", "read_times"))
+CLASS_METHODS = (
+    ("webclasses", "Web", "read_line"), ("timeclasses", "Times", "read_times"), ("machineclasses", "Machine", "of_text"),
+)
 
 
 def module_of(name):
@@ -117,7 +136,7 @@ class Interface(unittest.TestCase):
                 self.assertEqual(function.__module__, "stayorgo." + module, name)
                 self.assertEqual(str(inspect.signature(function)), signature, name)
                 told += 1
-        self.assertEqual(told, 155)
+        self.assertEqual(told, 187)
 
     def test_classes(self):
         for (module, name), text in CLASSES.items():
