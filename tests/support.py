@@ -611,3 +611,58 @@ def bad_machines(size):
         ((1,), (held[1:] + ((None,),),), 1), ((1,), (held[1:] + ((-1,),),), 1), ((1,), (held[1:] + (("0",),),), 1),
         ((2,), goes, 2), ((3, 3), (((0, 0),) * size,) * 2, 6), ((1,), ((None,) * size,), 1), ((1,), (None,), 1),
     ]
+
+
+# Webs that are one closed lot
+
+def random_lot(dice, largest=5):
+    """A web that is one closed lot, periodic ones among them."""
+    size = dice.randint(1, largest)
+    order = dice.sample(range(size), size)
+    bottom = dice.randint(1, 6)
+    rows = [[0] * size for _ in range(size)]
+    for k, place in enumerate(order):
+        rows[place][order[(k + 1) % size]] = 1
+        for _ in range(bottom - 1):
+            rows[place][dice.choice((order[(k + 1) % size], dice.randrange(size)))] += 1
+    common = bottom
+    for row in rows:
+        for number in row:
+            common = gcd(common, number)
+    return (tuple(tuple(number // common for number in row) for row in rows), bottom // common)
+
+
+def lot_cases(seed, many, largest=5):
+    dice = random.Random(seed)
+    webs = [HALVES, TURN, ALONE, CIRCLE] + [random_lot(dice, largest) for _ in range(30)]
+    for turn in range(many):
+        yield dice, webs[turn % len(webs)]
+
+
+def slow_shares(web):
+    """The shares of a web that is one closed lot, by fractions."""
+    size = size_of(web)
+    matrix = [[chance(web, i, j) - (i == j) for i in range(size)] for j in range(size - 1)] + [[1] * size]
+    return solve(matrix, [0] * (size - 1) + [1])
+
+
+def slow_need(web, here, there):
+    """The mean number of steps from here to there in a web that is one closed lot, by fractions."""
+    others = [place for place in range(size_of(web)) if place != there]
+    if here == there:
+        return Fraction(0)
+    found = solve([[(i == j) - chance(web, i, j) for j in others] for i in others], [1] * len(others))
+    return found[others.index(here)]
+
+
+def random_spread(dice, size):
+    while True:
+        numbers = [dice.choice((0, dice.randint(0, 5))) for _ in range(size)]
+        if sum(numbers) > 0:
+            return make_load(numbers, sum(numbers))
+
+
+def bad_spreads(size):
+    """Values that are no spreads of the size."""
+    unit = (1,) + (0,) * (size - 1)
+    return bad_loads(size) + [((0,) * size, 1), (unit, 2), ((2,) + unit[1:], 1), ((1,) * size, size + 1)]

@@ -315,6 +315,48 @@ raises InvalidRow(1)
 >>> from stayorgo.renamings import renamed_load
 >>> renamed_load(3, (2, 0, 1), ((5, 6, 7), 8))
 ((6, 7, 5), 8)
+>>> CIRCLE = (((0, 2, 0), (0, 0, 2), (1, 1, 0)), 2)
+>>> from stayorgo.backwards import backward
+>>> backward(CIRCLE)
+(((0, 0, 2), (1, 0, 1), (0, 2, 0)), 2)
+>>> from stayorgo.returns import returns_of
+>>> returns_of(TURN)
+(((1, -1), (-1, 1)), 4)
+>>> from stayorgo.forgettings import forgetting, worst_places
+>>> (forgetting(CIRCLE), worst_places(CIRCLE, ((1, 2, 2), 5)))
+(((1, 3, 1), 5), (0, 1))
+>>> from stayorgo.smallclasses import Small
+>>> small = Small(BOARD).cut_out(1).rename_by((2, 0, 1))
+>>> small.bring(((1, 2, 0, 0), 4))
+((1, 0, 2), 4)
+>>> FLIP = (((), (1,)), ((), (0,)))
+>>> from stayorgo.sending import arrows_to_come
+>>> arrows_to_come((((1,), (0,)), ((), (1,))), (1, 0))
+((0, 0), (1, 1))
+>>> from stayorgo.settlings import settle
+>>> settle(FLIP, (2, 0), (1, 0))
+raises Endless((0, 1))
+>>> from stayorgo.walkerpapers import lets_walkers
+>>> lets_walkers(FLIP, (2, 0), (1, 0), ("never", (0, 0), (0, 1)))
+raises InvalidPaper('overfull', 1)
+>>> from stayorgo.leading import led
+>>> MARKS = ((1, (0, 1)), (1, (1, 2)), (0, (0, 1)))
+>>> led(FORK, "go", MARKS, 0, (((0, 1), (1, 4)), ((1, 4), (0, 1)), ((0, 1), (0, 1))))
+((0, 1, 2), True)
+>>> from stayorgo.live import LiveHouse
+>>> house = LiveHouse(FORK)
+>>> house.do_all((("room", 1, (1, 2)), ("room", 2, (3, 4)), ("come", 0, (1, 1))))
+None
+>>> house.leave(2, (1, 4))
+None
+>>> (house.held_now, house.passed_now, house.tried(("come", 0, (1, 1))))
+(((0, 2, 1), 4), ((1, 0, 0), 1), False)
+>>> from stayorgo.eventtexts import read_event
+>>> read_event("come 0 2/4")
+raises InvalidText(0, 2)
+>>> from stayorgo.desk import Desk
+>>> list(Desk(TURN).hear_all("room 1 1/2", "come 0 1/2", "passed", "undo 3"))
+['done', 'done', '1,0/2', 'no: undo']
 >>> table_of(FORK, ONE, ((0, 1, 1), 2))
 ((1, 0, 0), 1)
 >>> can_stay(FORK, ONE, ((0, 10, 3), 10))

@@ -80,6 +80,20 @@ lumpkinds: is_parts(size, thing), is_lumping(web, thing), first_unlike(web, part
 lumpings: lumped_web(web, parts), lumped_load(size, parts, load), coarsest(web, parts)
 splits: split_web(web, place, spread), split_load(size, place, spread, load), copies_of(size, place, many)
 renamings: is_order(size, thing), renamed_web(web, order), renamed_load(size, order, load), turned_order(size, order)
+backwards: is_one_lot(web), backward(web)
+returns: returns_of(web), need_by(web, start, wish)
+forgettings: forgetting(web), forgetting_need(web), worst_need(web, wish), worst_places(web, wish)
+forgettings: home_need(web, place), lets_forgetting(web, thing)
+walkerkinds: is_rows(thing), is_walkers(size, thing)
+sending: standing_after(rows, walkers, way), is_walker_course(rows, walkers, seats, way), arrows_to_come(rows, sends)
+sending: row_arrow(rows, place, many)
+settlings: settle(rows, walkers, seats), some_course(rows, walkers, seats)
+walkerpapers: walker_paper(rows, walkers, seats), lets_walkers(rows, walkers, seats, thing)
+leading: is_die(thing), go_word(brinks, place, many, die), stay_word(brinks, place, many, die)
+leading: coin_word(coins, place, die), arrow_by(web, place, die), led(web, manner, marks, place, dice)
+liveevents: is_event(size, thing), is_log(thing)
+replaying: replayed(log)
+eventtexts: event_line(event), read_event(text)
 """
 
 # After the signature of the class itself: its methods; its properties, with "@"; its generators, with "*".
@@ -100,9 +114,16 @@ CLASSES = {
     ("machineclasses", "Machine"): """(size, machine); surely(web, start); course_on(web, start, *, many=1);
         *moments_on(web, start, many); waste_on(web, start); price_on(web, start, prices); mix(other, *, part=(1, 2));
         of_text(size, text); __eq__(other); __call__(web, start); __rshift__(other); __and__(other); __or__(other)""",
+    ("smallclasses", "Small"): """(web); cut_out(*places); lump_by(parts, *, most=False); split_at(place, *, spread);
+        rename_by(order); bring(load); both_tables(start, rooms); by_deeds(web, deeds); __iter__(); __eq__(other)""",
+    ("live", "LiveHouse"): """(web); come(place, amount); set_room(place, amount); leave(place, amount); go(event);
+        do_all(events); tried(event); refusal_of(event); undo(many); @held_now; @rooms_now; @passed_now; @came_now;
+        @left_now; @tally; @log""",
+    ("desk", "Desk"): """(web); hear(text); *hear_all(*texts); @log""",
 }
 CLASS_METHODS = (
     ("webclasses", "Web", "read_line"), ("timeclasses", "Times", "read_times"), ("machineclasses", "Machine", "of_text"),
+    ("smallclasses", "Small", "by_deeds"),
 )
 
 
@@ -136,7 +157,7 @@ class Interface(unittest.TestCase):
                 self.assertEqual(function.__module__, "stayorgo." + module, name)
                 self.assertEqual(str(inspect.signature(function)), signature, name)
                 told += 1
-        self.assertEqual(told, 187)
+        self.assertEqual(told, 218)
 
     def test_classes(self):
         for (module, name), text in CLASSES.items():

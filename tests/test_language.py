@@ -2,9 +2,12 @@
 
 import ast
 import builtins
+import inspect
 import os
 import re
 import unittest
+
+from stayorgo import errors
 
 FOLDER = os.path.join(os.path.dirname(os.path.dirname(os.path.abspath(__file__))), "stayorgo")
 LIBRARY = {"math": ("gcd", "lcm", "isqrt", "comb", "perm", "factorial"), "heapq": ("heappush", "heappop", "heapify")}
@@ -69,8 +72,9 @@ def docstrings(tree):
 
 
 def bound_in(function):
-    """The names that a function binds: parameters, targets, comprehension variables."""
+    """The names that a function binds: parameters, targets, comprehension variables, caught errors."""
     names = [node.arg for node in ast.walk(function) if isinstance(node, ast.arg)]
+    names += [node.name for node in ast.walk(function) if isinstance(node, ast.ExceptHandler) and node.name]
     held = [node for node in ast.walk(function) if isinstance(node, ast.Name)]
     return names + [node.id for node in held if isinstance(node.ctx, ast.Store)]
 
@@ -227,7 +231,11 @@ class Language(unittest.TestCase):
                 self.assertIsInstance(node.parent, ast.ClassDef, where)
             self.assertTrue(not node.name.startswith("__") or node.name in DUNDERS, where)
             self.assertIsInstance(node.parent, (ast.ClassDef, ast.Module), where)
-            self.assertFalse(node.args.posonlyargs or node.args.vararg or node.args.kwarg, where)
+            self.assertFalse(node.args.posonlyargs or node.args.kwarg, where)
+            if node.args.vararg:
+                # Any number of arguments, without an annotation, behind a plain first parameter of a method.
+                self.assertTrue(isinstance(node.parent, ast.ClassDef) and len(node.args.args) == 1, where)
+                self.assertTrue(node.args.vararg.annotation is None and not node.decorator_list, where)
             for default in node.args.defaults + [held for held in node.args.kw_defaults if held]:
                 ast.literal_eval(default)
         for where, node in self.each(ast.ClassDef):
@@ -288,9 +296,20 @@ class Language(unittest.TestCase):
 
     def test_errors_are_made_on_the_spot(self):
         for where, node in self.each(ast.Raise):
-            self.assertTrue(isinstance(node.exc, ast.Call) and node.cause is None, where)
+            if node.exc is None:
+                held = node.parent
+                while not isinstance(held, (ast.ExceptHandler, ast.FunctionDef)):
+                    held = held.parent
+                self.assertIsInstance(held, ast.ExceptHandler, where)
+            else:
+                self.assertTrue(isinstance(node.exc, ast.Call) and node.cause is None, where)
+        own = {name for name, _ in inspect.getmembers(errors, inspect.isclass)}
         for where, node in self.each(ast.ExceptHandler):
-            self.assertIsNotNone(node.type, where)
+            self.assertTrue(isinstance(node.type, ast.Name) and node.type.id in own, where)
+            # Of a caught error only its own attributes are read.
+            for held in ast.walk(node):
+                if isinstance(held, ast.Name) and held.id == node.name:
+                    self.assertTrue(isinstance(held.parent, ast.Attribute) and held.parent.attr != "args", where)
 
     def test_loops_do_not_change_what_they_go_over(self):
         for where, node in self.each(ast.For):
