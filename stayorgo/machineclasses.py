@@ -70,7 +70,7 @@ class Machine:
         require_number(many, "many")
         for tops, bottom in pair_course(web, start, self.inside, many):
             last = len(tops) - 1
-            yield load_from([sum(list(tops[i:last:self.size])) for i in range(self.size)], bottom)
+            yield load_from([sum(tops[i:last:self.size]) for i in range(self.size)], bottom)
 
     def waste_on(self, web, start):
         """For each closed lot the waste of the machine's passes."""
