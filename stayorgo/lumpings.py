@@ -39,4 +39,4 @@ def coarsest(web, parts):
     while held != finer:
         held = finer
         finer = parted(web, held)
-    return held
+    return finer

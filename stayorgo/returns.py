@@ -1,7 +1,7 @@
 """Returns: by how much more often than by the shares a walk from one place is at another one."""
 
 from stayorgo.backwards import all_shares, require_one_lot
-from stayorgo.kinds import common_divisor, is_spread
+from stayorgo.kinds import is_spread
 from stayorgo.loads import common_multiple, entry_of, weight_of
 from stayorgo.quotients import minus, plus, reduced, times
 from stayorgo.solving import going_matrix, solved
@@ -43,10 +43,10 @@ def returns_of(web):
     """The pair (rows, bottom) of g, in lowest terms."""
     require_one_lot(web)
     columns = return_columns(web)
+    # The quotients are in lowest terms, so nothing is common to the least multiple of their bottoms and all numbers.
     bottom = common_multiple([under for column in columns for _, under in column])
     rows = [[column[i][0] * (bottom // column[i][1]) for column in columns] for i in range(len(columns))]
-    common = common_divisor([bottom] + [number for row in rows for number in row])
-    return (tuple([tuple([number // common for number in row]) for row in rows]), bottom // common)
+    return (tuple([tuple(row) for row in rows]), bottom)
 
 
 def need_from(web, start, wish):
